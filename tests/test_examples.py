@@ -17,6 +17,12 @@ class Examples(unittest.TestCase):
                 self.assertEqual(failed, 0)
                 self.assertGreater(tried, 3)
 
+    def test_readme(self):
+        path = os.path.join(os.path.dirname(os.path.dirname(HERE)), "README.md")
+        failed, tried = doctest.testfile(path, module_relative=False)
+        self.assertEqual(failed, 0)
+        self.assertGreater(tried, 3)
+
 
 if __name__ == "__main__":
     unittest.main()

@@ -77,6 +77,14 @@ class Products(unittest.TestCase):
             self.assertEqual(product_row(perms, d), product)
             self.assertEqual(product_row(tuple(perms), d), product)
 
+    def test_lists_stay_as_they_are(self):
+        perms, swaps = [(1, 0, 2), (0, 2, 1), (1, 2, 0)], [(0, 1), (1, 2), (0, 1)]
+        for _ in range(2):
+            self.assertEqual(product_row(perms, 3), (0, 1, 2))
+            self.assertEqual(swap_product(swaps, 3), (2, 1, 0))
+        self.assertEqual(perms, [(1, 0, 2), (0, 2, 1), (1, 2, 0)])
+        self.assertEqual(swaps, [(0, 1), (1, 2), (0, 1)])
+
     def test_rows_malformed(self):
         good = ((1, 0), (0, 1))
         malformed(self, product_row, (good, 3), (good, 1), (good, "2"), (good, True), (good, None), (good, -1),

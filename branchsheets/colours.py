@@ -40,6 +40,6 @@ def is_kept_by(perms, colouring):
 
 
 def folded_rows(perms, colouring):
-    """The permutations of the colours."""
-    firsts = [colouring.index(colour) for colour in range(max(colouring, default=-1) + 1)]
+    """The permutations of the colours, of some sheets at least."""
+    firsts = [colouring.index(colour) for colour in range(max(colouring) + 1)]
     return tuple([tuple([colouring[p[x]] for x in firsts]) for p in perms])

@@ -228,6 +228,11 @@ class Blocks(unittest.TestCase):
         self.assertIs(is_primitive((1, ((0,),))), False)
         self.assertIs(is_primitive(TWO), True)
         self.assertIs(is_primitive(SIX), False)
+        # One proper block with 0 alone, that of 0 and 1, or that of 0 and 3.
+        self.assertIs(is_primitive((4, ((2, 3, 1, 0),))), False)
+        self.assertEqual(len(block_colourings((4, ((2, 3, 1, 0),)))), 3)
+        self.assertIs(is_primitive((4, ((1, 3, 0, 2),))), False)
+        self.assertEqual(len(block_colourings((4, ((1, 3, 0, 2),)))), 3)
         for d in (2, 3, 5, 7, 11, 13, 17, 19, 23):
             self.assertIs(is_primitive((d, (cycle_row(d),))), True)
         for d in (4, 9, 22, 24):
@@ -320,6 +325,8 @@ class Branching(unittest.TestCase):
         malformed_in_each_place(self, branch_loss, (S, one, (0, 0, 0)), [cover, cover, lambda v: repr(v) == "(0, 0, 0)"])
         malformed(self, branch_loss, (TWO, TWO, (0, 1)), (S, S, (1, 0, 2)), (S, S, [0, 1, 2]), (S, TWO, (0, 0, 0)),
                   ((2, ((0, 1),)), (2, ((0, 1),)), (0, 1)), (S, S, (False, True, 2)))
+        # The first one is not closed, the second one is.
+        malformed(self, branch_loss, (TWO, (1, ((0,),)), (0, 0)))
         self.assertEqual(branch_loss(S, S, (0, 1, 2)), 0)
         self.assertEqual(told_system(S, ((1,),))[0], 3)
         self.assertTrue(whole(branch_loss(S, S, (0, 1, 2))))

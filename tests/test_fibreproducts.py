@@ -3,6 +3,7 @@
 import itertools
 import random
 import unittest
+from fractions import Fraction
 from math import gcd, lcm
 
 from branchsheets.decks import deck_maps, is_galois, is_system_map, system_maps
@@ -12,6 +13,7 @@ from branchsheets.fibreproducts import product_datum, product_parts, subdegrees
 from branchsheets.permgroups import group_members, group_order, orbits_fixing, transitive_degree
 from branchsheets.permutations import cycle_type, order_of
 from branchsheets.systems import genus_of, is_closed, is_connected, is_cover, least_system, renumbered_system
+from branchsheets.wordspans import _is_new
 from helpers import ALL_24, EVEN_24, closed_up, connected, cycle_row, group_list, inv, is_sheet_below
 from helpers import malformed, malformed_in_each_place, mul, random_permutation, random_systems, refused, swap_row
 from helpers import system, walk, words_to
@@ -46,6 +48,20 @@ def pair_parts(A, B):
 def type_on(pairs, p, q):
     pairs = sorted(pairs)
     return cycle_type(tuple(pairs.index((p[x], q[y])) for x, y in pairs))
+
+
+def rank_of(rows):
+    """The rank over the fractions."""
+    rows, rank = [[Fraction(item) for item in row] for row in rows], 0
+    for at in range(len(rows[0]) if rows else 0):
+        pivot = next((k for k in range(rank, len(rows)) if rows[k][at]), None)
+        if pivot is not None:
+            rows[rank], rows[pivot] = rows[pivot], rows[rank]
+            for k in range(rank + 1, len(rows)):
+                factor = rows[k][at] / rows[rank][at]
+                rows[k] = [one - factor * other for one, other in zip(rows[k], rows[rank])]
+            rank += 1
+    return rank
 
 
 def fixed(p):
@@ -152,6 +168,8 @@ class Connected(unittest.TestCase):
             if R[0] > 1:
                 self.assertEqual(len(subdegrees(R)) == 2, transitive_degree(R) >= 2)
         self.assertEqual(subdegrees(ALL_24), (1, 23))
+        # The orbits are 0, then 1 and 2, then 3.
+        self.assertEqual(subdegrees((4, ((1, 3, 0, 2), (0, 2, 1, 3)))), (1, 1, 2))
         self.assertEqual(subdegrees((24, (cycle_row(24),) * 12)), (1,) * 24)
 
     def test_refused(self):
@@ -332,6 +350,18 @@ class Fixed(unittest.TestCase):
         for q, w in (((1, 2, 3, 4, 0, 6, 5, 7), (1,)), ((1, 2, 3, 0, 5, 6, 7, 4), (1, 1, 1)), (cycle_row(8), (1,) * 3)):
             self.assertEqual(least_unlike_fixed((8, (p,)), (8, (q,))), w)
         self.assertEqual(least_unlike_fixed((6, ((1, 0, 3, 2, 5, 4),)), (6, ((1, 2, 0, 4, 5, 3),))), (1, 1))
+
+    def test_sums_of_earlier_rows(self):
+        # With items 0 and 1 all determinants are below the prime, so the rank is that of fractions.
+        source = random.Random(57)
+        for _ in range(200):
+            n = source.randint(1, 5)
+            rows = [[source.randint(0, 1) for _ in range(n)] for _ in range(7)]
+            basis = []
+            kept = [row for row in rows if _is_new(basis, list(row))]
+            self.assertEqual(len(kept), rank_of(rows))
+            self.assertEqual(len(kept), len(basis))
+            self.assertEqual(rank_of(kept), len(kept))
 
     def test_unlike_sheets(self):
         self.assertEqual(least_unlike_fixed(S, T), ())

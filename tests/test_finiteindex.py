@@ -370,7 +370,8 @@ class Folding(unittest.TestCase):
             malformed(self, function, (13, ()), (0, ()), (2, ((1,) * 2001,)), (1, good))
         malformed_in_each_place(self, is_in_subgroup, (2, good, (2,)), [letters, fits, lambda v: word(v, 2)])
         malformed_in_each_place(self, same_subgroup, (2, good, good), [letters, fits, fits])
-        malformed(self, is_in_subgroup, (2, good, (1,) * 2001), (2, good, [1]))
+        malformed(self, is_in_subgroup, (2, good, (1,) * 2001), (2, good, [1]), (0, (), ()), (13, (), ()), (True, (), ()))
+        malformed(self, same_subgroup, (0, (), ()), (13, (), ()), (True, (), ()), (None, (), ()), (-1, (), ()))
 
 
 if __name__ == "__main__":

@@ -174,6 +174,7 @@ class Renumberings(unittest.TestCase):
         refused(self, "many", partners_of, tuple(range(8)))
         refused(self, "many", partners_of, least_of_type((11, 10, 8, 7)))
         refused(self, "many", partners_of, tuple(range(60)))
+        refused(self, "many", partners_of, cycle_row(5041))
         self.assertEqual(centralizer_order((2, 2, 2, 2, 2, 1, 1)), 7680)
         refused(self, "many", partners_of, least_of_type((2, 2, 2, 2, 2, 1, 1)))
 

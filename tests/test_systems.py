@@ -32,6 +32,10 @@ def renumbered_by_hand(T, f):
     return (T[0], tuple(perms))
 
 
+def one_of(*texts):
+    return lambda value: repr(value) in texts
+
+
 def reduced_by_hand(w):
     for at in range(len(w) - 1):
         if w[at] == -w[at + 1]:
@@ -97,6 +101,8 @@ class Systems(unittest.TestCase):
         T = (5, ((3, 1, 4, 0, 2),))
         malformed(self, restricted_system, (T, (0,)), (T, (0, 3, 1)), (T, (3, 0)), (T, [0, 3]), (T, ()), (T, (0, 3, 3)),
                   (NO_SHEETS, ()), (T, (0, 1, 2, 3, 4)), ((2, ((1, 0),)), (False, True)))
+        malformed_in_each_place(self, restricted_system, ((2, ((1, 0),)), (0, 1)),
+                                [lambda v: system(v) and (0, 1) in parts_by_trying(v), one_of("(0, 1)")])
         for value in VALUES:
             if repr(value) != "(1,)":
                 malformed(self, restricted_system, (T, value))

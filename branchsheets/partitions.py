@@ -18,6 +18,11 @@ def _demand_partition(mu):
     demand(is_partition(mu), "partition")
 
 
+def demand_pair(mu, nu):
+    """Raises Malformed, for every value, if both are not partitions of one integer."""
+    demand(is_partition(mu) and is_partition(nu) and sum(mu) == sum(nu), "partitions of one integer")
+
+
 def _parts_up_to(d, most):
     """The partitions of d with no part above most, ascending."""
     if d == 0:

@@ -2,7 +2,8 @@
 
 from branchsheets.demands import demand, demand_within
 from branchsheets.partitions import centralizer_order, is_partition
-from branchsheets.plainperms import cycle_rows, from_cycles, lengths_of, then, turned, turned_about, unit_of
+from branchsheets.plainperms import cycle_rows, exchanged, from_cycles, lengths_of, then, turned, turned_about
+from branchsheets.plainperms import unit_of
 from branchsheets.whole import is_integer, least_common
 
 MOST_SHEETS = 60
@@ -198,7 +199,8 @@ def swaps_of(p):
     return tuple([(cycle[0], x) for cycle in cycle_rows(p) for x in cycle[1:]])
 
 
-def _is_swap(value, d):
+def is_swap(value, d):
+    """True if the value is a swap of d sheets."""
     if not (isinstance(value, tuple) and len(value) == 2):
         return False
     a, b = value
@@ -208,8 +210,8 @@ def _is_swap(value, d):
 def swap_product(swaps, d):
     """The product of swaps of d sheets, in order."""
     _demand_row(swaps, d)
-    demand(all(_is_swap(swap, d) for swap in swaps), "row of swaps")
-    images = list(range(d))
+    demand(all(is_swap(swap, d) for swap in swaps), "row of swaps")
+    product = unit_of(d)
     for a, b in swaps:
-        images = [b if y == a else a if y == b else y for y in images]
-    return tuple(images)
+        product = exchanged(product, a, b)
+    return product

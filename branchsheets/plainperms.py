@@ -11,6 +11,11 @@ def then(p, q):
     return tuple([q[x] for x in p])
 
 
+def exchanged(p, a, b):
+    """The product of p and the swap of a and b."""
+    return tuple([b if x == a else a if x == b else x for x in p])
+
+
 def turned(p):
     """The inverse."""
     back = [0] * len(p)

@@ -4,8 +4,8 @@ from branchsheets.demands import demand, demand_within
 from branchsheets.errors import Refused
 from branchsheets.permutations import is_permutation
 from branchsheets.plainperms import lengths_of, unit_of
-from branchsheets.walks import genus_by_types, letter_rows, narrowed, numbered_in, opposite_word, part_rows
-from branchsheets.walks import reached_from, reduced, renumbered, row_product, walked, word_row, words_from
+from branchsheets.walks import genus_by_types, least_numbered, letter_rows, narrowed, numbered_in, opposite_word
+from branchsheets.walks import part_rows, reached_from, reduced, renumbered, row_product, walked, word_row, words_from
 from branchsheets.whole import is_integer
 
 MOST_SHEETS = 24
@@ -171,7 +171,7 @@ def numbered_from(S, x):
 def least_system(S):
     """The least of the systems numbered from all sheets."""
     demand_connected(S)
-    return min([numbered_in(S, reached_from(S[1], x)) for x in range(S[0])])
+    return least_numbered(S)
 
 
 def leading_words(S, x):

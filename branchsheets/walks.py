@@ -107,6 +107,11 @@ def numbered_in(S, order):
     return renumbered(S, turned(order))
 
 
+def least_numbered(S):
+    """The least of the systems numbered from all sheets of a connected system."""
+    return min([numbered_in(S, reached_from(S[1], x)) for x in range(S[0])])
+
+
 def narrowed(perms, sheets):
     """The permutations on some sheets that no letter leaves, numbered by their places."""
     places = {x: at for at, x in enumerate(sheets)}

@@ -184,3 +184,63 @@ def swap_row(d, a, b):
 # All permutations of 24 sheets, and all even ones.
 ALL_24 = (24, (cycle_row(24), swap_row(24, 0, 1)))
 EVEN_24 = (24, ((1, 2, 0) + tuple(range(3, 24)), (0,) + tuple(range(2, 24)) + (1,)))
+
+
+def partitions_by_trying(d, most=None):
+    """All partitions of d, ascending."""
+    if d == 0:
+        return [()]
+    most = d if most is None else min(d, most)
+    return [(first,) + rest for first in range(1, most + 1) for rest in partitions_by_trying(d - first, first)]
+
+
+def lengths(p):
+    """The cycle type, by walking."""
+    seen, rows = set(), []
+    for x in range(len(p)):
+        many = 0
+        while x not in seen:
+            seen.add(x)
+            x, many = p[x], many + 1
+        if many:
+            rows.append(many)
+    return tuple(sorted(rows, reverse=True))
+
+
+def of_type(mu):
+    return [p for p in all_permutations(sum(mu)) if lengths(p) == mu]
+
+
+def all_swaps(d):
+    return [swap_row(d, a, b) for a in range(d) for b in range(a + 1, d)]
+
+
+def joins_all(d, perms):
+    """True if the permutations lead each sheet to each other one; never for no sheets."""
+    return d > 0 and len(orbit_of(perms, 0)) == d
+
+
+def product_by_walking(d, perms):
+    product = tuple(range(d))
+    for p in perms:
+        product = mul(product, p)
+    return product
+
+
+def commutator(a, b):
+    return mul(mul(a, b), mul(inv(a), inv(b)))
+
+
+def rows_by_walking(h, d, kinds):
+    """All rows of 2 h permutations and one of each kind whose product, with commutators, leaves all sheets."""
+    handles = itertools.product(all_permutations(d), repeat=2 * h)
+    unit = tuple(range(d))
+    for front in handles:
+        start = product_by_walking(d, [commutator(front[2 * i], front[2 * i + 1]) for i in range(h)])
+        for row in itertools.product(*kinds):
+            if mul(start, product_by_walking(d, row)) == unit:
+                yield front + row
+
+
+def partition_of(d):
+    return lambda value: partition(value) and sum(value) == d

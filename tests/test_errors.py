@@ -30,6 +30,40 @@ INTERFACE = {
                      " closure_genus closure_system coset_system has_equal_fixed least_unlike_fixed",
     "cells": "cell_numbers face_chains chain_boundary is_loop_chain loop_rank loop_basis crossing_number"
              " crossing_table filling_of moved_chain deck_trace fixed_petals",
+    "classalgebra": "is_class_row class_row_of row_sum signed_row_sum class_constant class_table class_product"
+                    " class_power product_row_of tuple_number",
+    "rimhooks": "rim_removals rim_character character_rows hook_lengths filling_number central_number cell_row"
+                " kostka_number young_number row_product row_parts is_character_row invariant_number",
+    "coverings": "is_datum cover_number connected_number swap_number connected_swaps cover_weight connected_weight"
+                 " datum_genus surface_subgroups sub_data",
+    "cutjoin": "move_number move_row move_table double_number connected_double cut_and_join share_number least_moves"
+               " type_walk is_type_walk",
+    "walkgraphs": "is_walk_graph graph_types graph_weight graph_turns graph_pieces graph_genus graph_walk"
+                  " turned_graph drawn_graph walk_graphs graph_sum connected_sum",
+    "closedforms": "joining_rows joining_length cactus_number half_sine_row even_product even_quotient"
+                   " one_part_number one_part_swaps four_ends tree_rows",
+    "cyclefactors": "long_cycle swap_length lies_below crossing_of below_cycle other_side parting_number chain_number"
+                    " is_parking parking_of swaps_of_parking shortest_swaps joining_swaps",
+    "braids": "braid_move braided_row braid_orbit class_orbit sorted_row sorting_word joining_word swap_counts"
+              " curve_system",
+    "coverpapers": "alike_paper over_paper galois_paper blocks_paper",
+    "coverjudges": "takes_alike takes_over takes_galois takes_blocks",
+    "movepapers": "braid_paper walk_paper graphs_paper",
+}
+
+# The arguments of the functions from chapter 9 on, as the interface names them.
+ARGUMENTS = {
+    "classalgebra": "value,d mu row,d row,d mu,nu,lam mu one,two,d row,n,d types,d types,d",
+    "rimhooks": "lam,m lam,mu d lam lam lam,mu lam lam,mu mu,nu f,g,d f,d f,d S,lam",
+    "coverings": "value,d h,d,data h,d,data h,d,r,data h,d,r,data h,d,data h,d,data h,d,data h,d d,data",
+    "cutjoin": "mu,nu mu d mu,nu,r mu,nu,r F mu,nu mu,nu mu,nu,r value,mu,nu",
+    "walkgraphs": "value,r graph,r graph,r graph,r graph,r graph,r graph,r graph,r a,swaps mu,nu,r mu,nu,r mu,nu,r",
+    "closedforms": "mu mu d,types n f,h f,h nu,g nu,g a,b,c,e d",
+    "cyclefactors": "d p p,q p d p mu d,k value row row p,q p",
+    "braids": "row,i row,word row S row row one,two row S",
+    "coverpapers": "S,T S,T S S",
+    "coverjudges": "S,T,paper S,T,paper S,paper S,paper",
+    "movepapers": "one,two mu,nu,r mu,nu,r",
 }
 
 
@@ -62,6 +96,14 @@ class Interface(unittest.TestCase):
             module = importlib.import_module("branchsheets." + name)
             for word in words.split():
                 self.assertEqual(getattr(module, word).__module__, module.__name__, word)
+
+    def test_arguments(self):
+        for name, rows in ARGUMENTS.items():
+            module = importlib.import_module("branchsheets." + name)
+            words = INTERFACE[name].split()
+            self.assertEqual(len(words), len(rows.split()))
+            for word, row in zip(words, rows.split()):
+                self.assertEqual(",".join(inspect.signature(getattr(module, word)).parameters), row, word)
 
     def test_init_defines_nothing(self):
         import branchsheets

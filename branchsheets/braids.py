@@ -83,8 +83,8 @@ def braided_row(row, word):
 
 def _making_words(r):
     """Braid words of which all moves of r permutations are made."""
-    # All moves in order, between them a move, and their opposites make of the move the next one or the one
-    # before it; and where there are finitely many rows, a word done often enough undoes itself.
+    # The move i between all moves in order and their opposites is the move i + 1 or i - 1, so both words make all
+    # moves; and as there are finitely many rows, a word that is done often enough undoes itself.
     words = [(1,), tuple(range(1, r))]
     return words[:r - 1]
 

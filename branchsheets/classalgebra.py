@@ -23,7 +23,6 @@ def is_class_row(value, d):
 
 
 def _demand_row(row, d):
-    _demand_sheets(d)
     demand(is_class_row(row, d), "class row")
     demand_within(d, MOST_SHEETS, "large")
 
@@ -124,7 +123,6 @@ def _members_in(row, d):
 
 def class_product(one, two, d):
     """The product of two class rows of d."""
-    _demand_sheets(d)
     demand(is_class_row(one, d) and is_class_row(two, d), "class row")
     demand_within(d, MOST_SHEETS, "large")
     if _members_in(two, d) < _members_in(one, d):
@@ -139,7 +137,6 @@ def _one_of(d):
 
 def class_power(row, n, d):
     """The power of a class row, n from 0 to 40."""
-    _demand_sheets(d)
     demand(is_class_row(row, d), "class row")
     demand(is_integer(n) and 0 <= n <= MOST_FACTORS, "power")
     demand_within(d, MOST_SHEETS, "large")

@@ -81,7 +81,7 @@ class SwapRow:
         while self.swaps[to] != swap:
             to += 1
         self.pair_left(at, to + 1)
-        # Past the swap with their places changed, and back as they are then.
+        # They go past the swap and are renumbered by it; back past it and the others they stay as they are then.
         self.move(-to - 1)
         self.move(-to - 2)
         self.pair_right(to, at)

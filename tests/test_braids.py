@@ -3,7 +3,9 @@
 import itertools
 import random
 import unittest
+from unittest import mock
 
+from branchsheets import braids
 from branchsheets.braids import braid_move, braid_orbit, braided_row, class_orbit, curve_system, joining_word
 from branchsheets.braids import sorted_row, sorting_word, swap_counts
 from branchsheets.systems import genus_of, is_cover, is_system, least_system, renumbered_system
@@ -183,6 +185,16 @@ class Orbits(unittest.TestCase):
         refused(self, "many", braid_orbit, eight)
         unit = tuple(range(8))
         self.assertEqual(braid_orbit((unit,) * 8), ((unit,) * 8,))
+
+    def test_most(self):
+        self.assertEqual((braids.MOST_ROWS, braids.MOST_CLASSES, braids.MOST_CURVE_SHEETS), (20000, 4000, 24))
+        for name, most, function, value in (("MOST_ROWS", 24, braid_orbit, FOUR),
+                                            ("MOST_CLASSES", 4, class_orbit, (3, FOUR)),
+                                            ("MOST_CURVE_SHEETS", 4, curve_system, (3, FOUR))):
+            with mock.patch.object(braids, name, most):
+                function(value)
+            with mock.patch.object(braids, name, most - 1):
+                refused(self, "many", function, value)
 
     def test_orbit_refused(self):
         refused(self, "large", braid_orbit, (tuple(range(9)),))

@@ -244,6 +244,14 @@ class Wrong(unittest.TestCase):
         for function in (product_row_of, tuple_number):
             malformed_in_each_place(self, function, (((2, 1), (3,)), 3), (types, three))
 
+    def test_no_factors(self):
+        for value in VALUES:
+            if not (whole(value) and value >= 0):
+                malformed(self, product_row_of, ((), value))
+                malformed(self, tuple_number, ((), value))
+                malformed(self, class_product, ((), (), value))
+                malformed(self, class_power, ((1,), 0, value))
+
     def test_bounds(self):
         row = (1, 0, 0)
         malformed(self, class_power, (row, 41, 3), (row, -1, 3), (row, True, 3), (row, 10 ** 60, 3), ((1, 0), 2, 3))

@@ -1,11 +1,38 @@
 """The bounds of the language that the package keeps to, as far as a short test sees them."""
 
 import ast
+import builtins
+import io
 import os
+import re
+import tokenize
 import unittest
 
 PACKAGE = os.path.join(os.path.dirname(os.path.dirname(os.path.abspath(__file__))), "branchsheets")
 BEHIND = ("math",)
+
+# The methods of builtin values that the package may call.
+METHODS = ("append clear copy count endswith extend find get index insert isalnum isalpha isdigit islower isspace isupper"
+           " items join keys ljust lower lstrip partition pop remove replace reverse rfind rjust rpartition rsplit"
+           " rstrip setdefault split splitlines startswith strip update upper values zfill bit_length"
+           " add discard").split()
+BUILTINS = ("len range enumerate zip min max sum abs sorted reversed int str bool list tuple dict set isinstance ord"
+            " repr any all divmod ValueError").split()
+WORDS = ("type typing typing_extensions enum Enum IntEnum StrEnum Flag IntFlag Generic Protocol ABC ABCMeta namedtuple"
+         " NamedTuple TypedDict TYPE_CHECKING abstractmethod").split()
+BARRED = WORDS + "mro elements open input law register eval exec globals locals vars dir id super print".split()
+HEADS = ("_wall", "_pe_", "_dcw_", "_enum_", "_cm_", "_twin_re_", "_lay_", "_law_", "_stub_", "_sre", "__")
+
+
+def bound_names(node):
+    """The names that a function binds: its parameters, and what is assigned in it."""
+    names = [argument.arg for argument in node.args.posonlyargs + node.args.args + node.args.kwonlyargs]
+    for part in ast.walk(node):
+        if isinstance(part, ast.Name) and isinstance(part.ctx, ast.Store):
+            names.append(part.id)
+        if isinstance(part, ast.Lambda):
+            names.extend(argument.arg for argument in part.args.args)
+    return names
 
 
 def files():
@@ -44,6 +71,81 @@ class Language(unittest.TestCase):
                 if module not in met and module not in BEHIND:
                     met.add(module)
                     waiting.extend(ahead[module])
+
+    def test_names(self):
+        for name, text in files():
+            tree = ast.parse(text)
+            taken = {alias.name for node in tree.body if isinstance(node, ast.ImportFrom) for alias in node.names}
+            taken |= {node.name for node in tree.body if isinstance(node, ast.ClassDef)}
+            own = [node.name for node in tree.body if isinstance(node, (ast.FunctionDef, ast.ClassDef))]
+            self.assertEqual(len(own), len(set(own)), name)
+            self.assertFalse(set(own) & {alias for alias in taken if alias not in own}, name)
+            for node in ast.walk(tree):
+                if isinstance(node, (ast.FunctionDef, ast.ClassDef)):
+                    self.assertTrue(node.name == "__init__" or not hasattr(builtins, node.name), (name, node.name))
+                    self.assertTrue(node.name == "__init__" or not node.name.startswith(HEADS), (name, node.name))
+                    self.assertEqual(node.decorator_list, [], (name, node.name))
+                if isinstance(node, ast.FunctionDef):
+                    for word in bound_names(node):
+                        self.assertFalse(hasattr(builtins, word) and word != "_", (name, word))
+                        self.assertNotIn(word, taken, (name, word))
+                        self.assertFalse(word.startswith(HEADS), (name, word))
+                if isinstance(node, ast.Name) and isinstance(node.ctx, ast.Load):
+                    self.assertNotEqual(node.id, "_", name)
+                    if hasattr(builtins, node.id):
+                        self.assertIn(node.id, BUILTINS, name)
+
+    def test_words(self):
+        for name, text in files():
+            for token in tokenize.generate_tokens(io.StringIO(text).readline):
+                if token.type == tokenize.NAME:
+                    self.assertNotIn(token.string, BARRED, name)
+                if token.type == tokenize.STRING and not token.string.startswith('"""'):
+                    self.assertFalse(set(re.findall(r"\w+", token.string)) & set(WORDS), (name, token.string))
+                    self.assertNotIn("%", token.string, name)
+
+    def test_unused(self):
+        for name, text in files():
+            tree = ast.parse(text)
+            used = {node.id for node in ast.walk(tree) if isinstance(node, ast.Name) and isinstance(node.ctx, ast.Load)}
+            for node in tree.body:
+                if isinstance(node, ast.ImportFrom):
+                    self.assertTrue({alias.name for alias in node.names} <= used, (name, node.module))
+                    self.assertFalse([alias for alias in node.names if alias.asname or alias.name.startswith("_")], name)
+                if isinstance(node, ast.FunctionDef) and node.name.startswith("_"):
+                    self.assertIn(node.name, used, name)
+
+    def test_methods(self):
+        own = set()
+        for name, text in files():
+            for node in ast.walk(ast.parse(text)):
+                if isinstance(node, ast.ClassDef):
+                    own |= {part.name for part in node.body if isinstance(part, ast.FunctionDef)}
+        for name, text in files():
+            for node in ast.walk(ast.parse(text)):
+                if isinstance(node, ast.Call) and isinstance(node.func, ast.Attribute):
+                    self.assertIn(node.func.attr, METHODS + sorted(own), name)
+                    self.assertTrue(node.func.attr != "sort", name)
+
+    def test_sets_and_comparisons(self):
+        for name, text in files():
+            for node in ast.walk(ast.parse(text)):
+                self.assertNotIsInstance(node, (ast.Set, ast.SetComp, ast.Yield, ast.Await, ast.Global), name)
+                if isinstance(node, ast.Compare):
+                    for sign, other in zip(node.ops, node.comparators):
+                        if isinstance(sign, (ast.Is, ast.IsNot)):
+                            self.assertTrue(isinstance(other, ast.Constant) and other.value in (None, True, False), name)
+                if isinstance(node, ast.Call) and isinstance(node.func, ast.Name):
+                    self.assertFalse(node.func.id in ("set", "frozenset", "print"), name)
+
+    def test_constants(self):
+        for name, text in files():
+            for node in ast.parse(text).body:
+                self.assertIsInstance(node, (ast.Expr, ast.ImportFrom, ast.FunctionDef, ast.ClassDef, ast.Assign), name)
+                if isinstance(node, ast.Assign):
+                    self.assertEqual(len(node.targets), 1, name)
+                    self.assertIsInstance(node.targets[0], ast.Name, name)
+                    ast.literal_eval(node.value)
 
     def test_no_floats_and_powers(self):
         for name, text in files():

@@ -5,7 +5,9 @@ import random
 import unittest
 from fractions import Fraction
 from math import factorial, prod
+from unittest import mock
 
+from branchsheets import walkgraphs
 from branchsheets.cutjoin import connected_double, double_number, is_type_walk
 from branchsheets.partitions import centralizer_order
 from branchsheets.walkgraphs import connected_sum, drawn_graph, graph_genus, graph_pieces, graph_sum, graph_turns
@@ -120,7 +122,9 @@ class Graphs(unittest.TestCase):
                  ((0, 1, 2), (1, 2, 1), (1, 2, 1), (2, 2, 2)), ((0, 1, 2), (1, 2, 1), (1, 2, 1), (2, 3, 2, 0)),
                  ((-1, 1, 2), (1, 2, 1), (1, 2, 1), (2, 3, 2)), ((0, 1, 10 ** 60), (1, 2, 1), (1, 2, 1), (2, 3, 2)),
                  ((0, 1, 1), (0, 1, 1), (0, 1, 1), (0, 2, 2), (2, 3, 1), (2, 3, 1)),
-                 ((1, 2, 1), (1, 2, 1), (1, 2, 1), (2, 3, 3)), ((0, 1, 3), (1, 2, 1), (1, 2, 1), (1, 2, 1))]
+                 ((1, 2, 1), (1, 2, 1), (1, 2, 1), (2, 3, 3)), ((0, 1, 3), (1, 2, 1), (1, 2, 1), (1, 2, 1)),
+                 ((0, 1, 0),), ((0, 1, -1),), ((0, 1, 2), (0, 1, 1)), ((0, 1, 2), (1, 2, 0), (1, 2, 2), (2, 3, 2)),
+                 ((0, 1, 0), (0, 1, 0), (1, 2, 0)), ((0, 1, 1), (1, 2, -1), (1, 2, 2)), ((0, 1, 2), (1, 2, 2), (1, 2, 0))]
         for r in range(4):
             for value in VALUES + wrong + [graph for graph, _ in GRAPHS]:
                 try:
@@ -294,6 +298,16 @@ class Lists(unittest.TestCase):
         for function in (walk_graphs, graph_sum, connected_sum):
             for mu, nu, r in (((12,), (12,), 12), ((1,) * 12, (12,), 12), ((6,), (6,), 12), ((5, 3, 2, 1, 1), (12,), 8)):
                 refused(self, "many", function, mu, nu, r)
+
+    def test_most(self):
+        self.assertEqual(walkgraphs.MOST_GRAPHS, 20000)
+        mu, r = (3, 1), 4
+        most = max(count_layer(mu, i) for i in range(r + 1))
+        for function in (walk_graphs, graph_sum, connected_sum):
+            with mock.patch.object(walkgraphs, "MOST_GRAPHS", most):
+                function(mu, mu, r)
+            with mock.patch.object(walkgraphs, "MOST_GRAPHS", most - 1):
+                refused(self, "many", function, mu, mu, r)
 
     def test_how_many(self):
         # Refused as soon as there are more than 20000 graphs with any right type, for some number of moves.

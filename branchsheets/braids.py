@@ -48,13 +48,11 @@ def demand_swap_rows(one, two):
 
 
 def is_braid_word(value, r):
-    """True if the value is a braid word of at most 40000 moves of r permutations."""
-    if not (isinstance(value, tuple) and len(value) <= LONGEST_WORD):
-        return False
-    return all([is_integer(i) and 0 < abs(i) < r for i in value])
+    """True if the value is a braid word of r permutations."""
+    return isinstance(value, tuple) and all([is_integer(i) and 0 < abs(i) < r for i in value])
 
 
-def _led_by(row, word):
+def led_by(row, word):
     """The row behind a braid word."""
     perms = list(row)
     for i in word:
@@ -71,14 +69,14 @@ def braid_move(row, i):
     """The row behind a move, or its opposite."""
     _demand_row(row)
     demand(is_braid_word((i,), len(row)), "braid move")
-    return _led_by(row, (i,))
+    return led_by(row, (i,))
 
 
 def braided_row(row, word):
     """The row behind a braid word."""
     _demand_row(row)
-    demand(is_braid_word(word, len(row)), "braid word")
-    return _led_by(row, word)
+    demand(is_braid_word(word, len(row)) and len(word) <= LONGEST_WORD, "braid word")
+    return led_by(row, word)
 
 
 def _making_words(r):
@@ -109,12 +107,12 @@ def braid_orbit(row):
     demand_within(len(row[0]), MOST_ORBIT_SHEETS, "large")
     demand_within(len(row), MOST_ORBIT_PERMUTATIONS, "large")
     words = _making_words(len(row))
-    return _reached(row, lambda perms: [_led_by(perms, word) for word in words], MOST_ROWS)
+    return _reached(row, lambda perms: [led_by(perms, word) for word in words], MOST_ROWS)
 
 
 def _led_class(S, word):
     """The least system of those that are alike to a system behind a braid word."""
-    return least_numbered((S[0], _led_by(S[1], word)))
+    return least_numbered((S[0], led_by(S[1], word)))
 
 
 def class_orbit(S):

@@ -1,12 +1,13 @@
 """Surfaces by cells: chains, loop chains, crossing numbers and fillings."""
 
+from branchsheets.crossings import crossing_rows
 from branchsheets.demands import demand, demand_within
+from branchsheets.paperforms import are_integers
 from branchsheets.permutations import is_permutation
-from branchsheets.plainperms import cycle_rows, then, turned
-from branchsheets.surfacetrees import edge_rows, face_rows, loop_rows, levels_of_faces
+from branchsheets.plainperms import cycle_rows, then
+from branchsheets.surfacetrees import edge_rows, face_rows, faces_chain, led_chain, levels_of_faces, loop_rows
 from branchsheets.systems import is_closed, is_system
 from branchsheets.walks import part_rows
-from branchsheets.whole import is_integer
 
 MOST_EDGES = 120
 
@@ -15,21 +16,28 @@ def _edges_of(S):
     return len(S[1]) * S[0]
 
 
-def _demand_surface(S):
+def demand_surface(S):
+    """Raises Malformed, for every value, if it is no closed system."""
     demand(is_system(S) and is_closed(S), "closed system")
 
 
+def _is_chain(S, value):
+    """True if the value is a chain of the closed system S."""
+    return are_integers(value, _edges_of(S))
+
+
 def _demand_chain(S, a):
-    demand(isinstance(a, tuple) and len(a) == _edges_of(S), "chain")
-    demand(all(is_integer(many) for many in a), "chain")
+    demand(_is_chain(S, a), "chain")
 
 
-def _demand_deck_map(S, f):
+def demand_deck_map(S, f):
+    """Raises Malformed, for every value, if it is no deck map of the closed system S."""
     demand(is_permutation(f) and len(f) == S[0], "deck map")
-    demand(all(then(f, p) == then(p, f) for p in S[1]), "deck map")
+    demand(all([then(f, p) == then(p, f) for p in S[1]]), "deck map")
 
 
-def _demand_small(S):
+def demand_small(S):
+    """Raises Refused if there are more than 120 edges."""
     demand_within(_edges_of(S), MOST_EDGES, "large")
 
 
@@ -42,36 +50,35 @@ def _boundary(S, a):
     return tuple(sums)
 
 
-def _demand_loop_chain(S, a):
-    demand(all(many == 0 for many in _boundary(S, a)), "loop chain")
+def is_loop(S, value):
+    """True if the value is a loop chain of the closed system S."""
+    return _is_chain(S, value) and all([many == 0 for many in _boundary(S, value)])
+
+
+def demand_loop(S, a):
+    """Raises Malformed, for every value, if it is no loop chain of the closed system S."""
+    demand(is_loop(S, a), "loop chain")
 
 
 def cell_numbers(S):
     """The numbers of points, edges and faces."""
-    _demand_surface(S)
-    _demand_small(S)
+    demand_surface(S)
+    demand_small(S)
     return (S[0], _edges_of(S), len(face_rows(S)))
 
 
 def face_chains(S):
     """The tuple of the chains of the faces, the petals first."""
-    _demand_surface(S)
-    _demand_small(S)
-    return tuple([_chain_of(S, face) for face in face_rows(S)])
-
-
-def _chain_of(S, edges):
-    chain = [0] * _edges_of(S)
-    for edge in edges:
-        chain[edge] += 1
-    return tuple(chain)
+    demand_surface(S)
+    demand_small(S)
+    return tuple([faces_chain(S, [face], [1]) for face in face_rows(S)])
 
 
 def chain_boundary(S, a):
     """The boundary of a chain: one integer for each sheet."""
-    _demand_surface(S)
+    demand_surface(S)
     _demand_chain(S, a)
-    _demand_small(S)
+    demand_small(S)
     return _boundary(S, a)
 
 
@@ -89,35 +96,9 @@ def loop_rank(S):
 
 def loop_basis(S):
     """A basis of the loop chains up to filled ones."""
-    _demand_surface(S)
-    _demand_small(S)
+    demand_surface(S)
+    demand_small(S)
     return tuple(loop_rows(S))
-
-
-def _ends_at(S, a):
-    """For each sheet the numbers of the chain at the ends round the point, minus signs at ends coming in."""
-    d, perms = S
-    backs = [turned(p) for p in perms]
-    rows = []
-    for x in range(d):
-        ends = []
-        for at, back in enumerate(backs):
-            ends.append(a[at * d + x])
-            ends.append(-a[at * d + back[x]])
-        rows.append(ends)
-    return rows
-
-
-def _crossing(ones, others):
-    """The crossing number of two loop chains, told by their numbers at the ends."""
-    double = 0
-    for us, vs in zip(ones, others):
-        u_sum, v_sum = 0, 0
-        for u, v in zip(us, vs):
-            double += u_sum * v - u * v_sum
-            u_sum += u
-            v_sum += v
-    return double // 2
 
 
 def crossing_number(S, a, b):
@@ -127,47 +108,37 @@ def crossing_number(S, a, b):
 
 def crossing_table(S, chains):
     """The tuple of the rows of the crossing numbers of some loop chains."""
-    _demand_surface(S)
+    demand_surface(S)
     demand(isinstance(chains, tuple), "tuple of chains")
     for a in chains:
         _demand_chain(S, a)
-    _demand_small(S)
+    demand_small(S)
     for a in chains:
-        _demand_loop_chain(S, a)
-    ends = [_ends_at(S, a) for a in chains]
-    return tuple([tuple([_crossing(one, other) for other in ends]) for one in ends])
+        demand_loop(S, a)
+    return crossing_rows(S, chains, chains)
 
 
 def filling_of(S, a):
     """How often to take each face, to make up the loop chain of their chains; None if it is not filled."""
-    _demand_surface(S)
+    demand_surface(S)
     _demand_chain(S, a)
-    _demand_small(S)
-    _demand_loop_chain(S, a)
-    faces = face_rows(S)
+    demand_small(S)
+    demand_loop(S, a)
     times = levels_of_faces(S, a)
-    sums = [0] * _edges_of(S)
-    for many, face in zip(times, faces):
-        for edge in face:
-            sums[edge] += many
-    return tuple(times) if tuple(sums) == a else None
+    return tuple(times) if faces_chain(S, face_rows(S), times) == a else None
 
 
 def _demand_moved(S, f):
-    _demand_surface(S)
-    _demand_deck_map(S, f)
+    demand_surface(S)
+    demand_deck_map(S, f)
 
 
 def moved_chain(S, f, a):
     """The chain to which a deck map leads a chain."""
     _demand_moved(S, f)
     _demand_chain(S, a)
-    _demand_small(S)
-    d = S[0]
-    moved = [0] * len(a)
-    for at, many in enumerate(a):
-        moved[at - at % d + f[at % d]] = many
-    return tuple(moved)
+    demand_small(S)
+    return led_chain(S, f, a)
 
 
 def deck_trace(S, f):
@@ -182,6 +153,6 @@ def deck_trace(S, f):
 def fixed_petals(S, f):
     """The number of the petals that a deck map leads to themselves."""
     _demand_moved(S, f)
-    _demand_small(S)
+    demand_small(S)
     cycles = [cycle for p in S[1] for cycle in cycle_rows(p)]
     return sum([1 for cycle in cycles if f[cycle[0]] in cycle])

@@ -14,16 +14,27 @@ def _demand_sheets(d):
     demand(is_integer(d) and d >= 0, "number of sheets")
 
 
-def is_class_row(value, d):
+def _has_row_form(value, d):
     """True if the value is a class row of d; above 8 sheets each tuple of integers counts as one."""
-    _demand_sheets(d)
     if not (isinstance(value, tuple) and all([is_integer(n) for n in value])):
         return False
     return d > MOST_SHEETS or len(value) == len(partitions_of(d))
 
 
+def is_class_row(value, d):
+    """True if the value is a class row of d."""
+    _demand_sheets(d)
+    demand_within(d, MOST_SHEETS, "large")
+    return _has_row_form(value, d)
+
+
+def _demand_form(row, d):
+    _demand_sheets(d)
+    demand(_has_row_form(row, d), "class row")
+
+
 def _demand_row(row, d):
-    demand(is_class_row(row, d), "class row")
+    _demand_form(row, d)
     demand_within(d, MOST_SHEETS, "large")
 
 
@@ -123,8 +134,8 @@ def _members_in(row, d):
 
 def class_product(one, two, d):
     """The product of two class rows of d."""
-    demand(is_class_row(one, d) and is_class_row(two, d), "class row")
-    demand_within(d, MOST_SHEETS, "large")
+    _demand_form(one, d)
+    _demand_row(two, d)
     if _members_in(two, d) < _members_in(one, d):
         one, two = two, one
     return tuple(_led_by(two, _table_of_row(one, d)))
@@ -137,7 +148,7 @@ def _one_of(d):
 
 def class_power(row, n, d):
     """The power of a class row, n from 0 to 40."""
-    demand(is_class_row(row, d), "class row")
+    _demand_form(row, d)
     demand(is_integer(n) and 0 <= n <= MOST_FACTORS, "power")
     demand_within(d, MOST_SHEETS, "large")
     table = _table_of_row(row, d)
@@ -147,16 +158,21 @@ def class_power(row, n, d):
     return tuple(power)
 
 
+def product_rows(types, d):
+    """The list of the products of the class rows of the first 0, 1, .. of some partitions of d, without checks."""
+    tables = _tables_of(types, d)
+    rows = [tuple(_one_of(d))]
+    for mu in types:
+        rows.append(tuple(_led_by(rows[-1], tables[mu])))
+    return rows
+
+
 def product_row_of(types, d):
     """The product of the class rows of at most 40 partitions of d."""
     _demand_sheets(d)
     demand(isinstance(types, tuple) and len(types) <= MOST_FACTORS, "tuple of partitions")
     _demand_types(types, d)
-    tables = _tables_of(types, d)
-    row = _one_of(d)
-    for mu in types:
-        row = _led_by(row, tables[mu])
-    return tuple(row)
+    return product_rows(types, d)[-1]
 
 
 def tuple_number(types, d):

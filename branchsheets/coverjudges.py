@@ -3,30 +3,19 @@
 from branchsheets.coverpapers import demand_blocks, demand_joined
 from branchsheets.decks import is_block_colouring, is_system_map
 from branchsheets.joins import join_two, root_of
+from branchsheets.paperforms import is_form, is_place, is_tuple_of
 from branchsheets.permutations import is_permutation
 from branchsheets.systems import demand_connected, is_word, walk_word
 from branchsheets.walks import letter_rows
-from branchsheets.whole import is_integer
-
-
-def is_form(paper, word, items):
-    """True if a paper is a tuple of a word and some items more."""
-    return isinstance(paper, tuple) and len(paper) == items + 1 and paper[0] == word
 
 
 def _is_closed_at(S, x, w):
     return walk_word(S, x, w) == x
 
 
-def _is_sheet(value, S):
-    return is_integer(value) and 0 <= value < S[0]
-
-
 def _are_words(value, S, T):
     """True if the value is a tuple of one word for each sheet of T."""
-    if not (isinstance(value, tuple) and len(value) == T[0]):
-        return False
-    return all([is_word(w, len(S[1])) for w in value])
+    return is_tuple_of(value, T[0]) and all([is_word(w, len(S[1])) for w in value])
 
 
 def takes_alike(S, T, paper):
@@ -52,9 +41,7 @@ def takes_over(S, T, paper):
 
 def _are_deck_maps(S, value):
     """True if the value is a tuple of one deck map for each sheet, that leads 0 to it."""
-    if not (isinstance(value, tuple) and len(value) == S[0]):
-        return False
-    return all([is_system_map(S, S, f) and f[0] == y for y, f in enumerate(value)])
+    return is_tuple_of(value, S[0]) and all([is_system_map(S, S, f) and f[0] == y for y, f in enumerate(value)])
 
 
 def takes_galois(S, paper):
@@ -64,16 +51,16 @@ def takes_galois(S, paper):
         return _are_deck_maps(S, paper[1])
     if is_form(paper, "uneven", 2):
         _, y, w = paper
-        if _is_sheet(y, S) and is_word(w, len(S[1])):
+        if is_place(y, S[0]) and is_word(w, len(S[1])):
             return _is_closed_at(S, 0, w) and not _is_closed_at(S, y, w)
     return False
 
 
 def _is_triple(value, S):
-    if not (isinstance(value, tuple) and len(value) == 3):
+    if not is_tuple_of(value, 3):
         return False
     u, v, i = value
-    return _is_sheet(u, S) and _is_sheet(v, S) and is_word((i,), len(S[1]))
+    return is_place(u, S[0]) and is_place(v, S[0]) and is_word((i,), len(S[1]))
 
 
 def _joins_all(S, y, row):
@@ -98,6 +85,5 @@ def takes_blocks(S, paper):
         return is_block_colouring(S, colouring) and 0 < max(colouring) < S[0] - 1
     if is_form(paper, "primitive", 1):
         rows = paper[1]
-        if isinstance(rows, tuple) and len(rows) == S[0] - 1:
-            return all([_joins_all(S, at + 1, row) for at, row in enumerate(rows)])
+        return is_tuple_of(rows, S[0] - 1) and all([_joins_all(S, at + 1, row) for at, row in enumerate(rows)])
     return False

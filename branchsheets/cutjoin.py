@@ -111,9 +111,14 @@ def least_moves(mu, nu):
     return len(mu) + len(nu) - 2 * shares
 
 
+def demand_walk(mu, nu, r):
+    """Raises Malformed, for every value, or Refused, if walks of types are not told for these."""
+    _demand_swaps(mu, nu, r, GREATEST_SUM)
+
+
 def type_walk(mu, nu, r):
     """A walk of types from mu to nu with r moves, or None."""
-    _demand_swaps(mu, nu, r, GREATEST_SUM)
+    demand_walk(mu, nu, r)
     # A move leads back where it came from: so the types from which nu is reached are led to from nu.
     rows = MoveRows().led_rows(nu, r)
     if mu not in rows[r]:

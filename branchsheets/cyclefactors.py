@@ -2,8 +2,8 @@
 
 from branchsheets.demands import demand, demand_within
 from branchsheets.partitions import is_partition, repeat_number
-from branchsheets.permutations import is_permutation, is_swap, swaps_of
-from branchsheets.plainperms import cycle_rows, exchanged, from_cycles, then, turned, unit_of
+from branchsheets.permutations import are_swaps, is_permutation, swaps_of
+from branchsheets.plainperms import cycle_rows, exchanged, from_cycles, swaps_made, then, turned
 from branchsheets.whole import chosen_of, factorial_of, is_integer
 
 MOST_SHEETS = 24
@@ -132,11 +132,8 @@ def _demand_cycle_row(row):
     """Raises Malformed if it is no row of d - 1 swaps of d sheets with the long cycle as its product."""
     demand(isinstance(row, tuple) and len(row) < MOST_SHEETS, "row of swaps")
     d = len(row) + 1
-    demand(all([is_swap(swap, d) for swap in row]), "row of swaps")
-    p = unit_of(d)
-    for a, b in row:
-        p = exchanged(p, a, b)
-    demand(p == _long_cycle(d), "row with the long cycle as its product")
+    demand(are_swaps(row, d - 1, d), "row of swaps")
+    demand(swaps_made(row, d) == _long_cycle(d), "row with the long cycle as its product")
 
 
 def parking_of(row):

@@ -24,7 +24,7 @@ def is_system_map(S, T, value):
     demand_rank(S, T)
     if not (isinstance(value, tuple) and len(value) == S[0]):
         return False
-    if not all(is_integer(y) and 0 <= y < T[0] for y in value):
+    if not all([is_integer(y) and 0 <= y < T[0] for y in value]):
         return False
     return _goes_with(S, T, value)
 
@@ -105,7 +105,7 @@ def is_block_colouring(S, value):
     demand_system(S)
     if not (isinstance(value, tuple) and len(value) == S[0]):
         return False
-    if not all(is_integer(colour) for colour in value):
+    if not all([is_integer(colour) for colour in value]):
         return False
     return first_numbered(value) == value and is_kept_by(S[1], value)
 

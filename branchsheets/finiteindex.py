@@ -5,8 +5,9 @@ from branchsheets.demands import demand, demand_within
 from branchsheets.errors import Refused
 from branchsheets.foldings import arrows_by, led_along
 from branchsheets.partitions import centralizer_order, partitions_of
+from branchsheets.schreierwords import told_words
 from branchsheets.systems import demand_sheet, demand_system, demand_word, is_word, refuse_unconnected
-from branchsheets.walks import letter_rows, numbered_in, opposite_word, reduced, walked, words_from
+from branchsheets.walks import letter_rows, numbered_in, opposite_word, reduced, walked
 from branchsheets.whole import factorial_of, is_integer, raised_to
 
 MOST_LETTERS = 12
@@ -20,37 +21,27 @@ def _demand_rooted(S, x):
     demand_sheet(S, x)
 
 
-def _demand_rank(k):
+def demand_letters(k):
+    """Raises Malformed, for every value, if it is no integer from 1 to 12."""
     demand(is_integer(k) and 1 <= k <= MOST_LETTERS, "number of letters")
 
 
 def _demand_sizes(k, d):
-    _demand_rank(k)
+    demand_letters(k)
     demand(is_integer(d) and 1 <= d <= MOST_SHEETS, "number of sheets")
 
 
-def _demand_words(words, k):
+def demand_words(words, k):
+    """Raises Malformed, for every value, if it is no tuple of words of k letters."""
     demand(isinstance(words, tuple), "tuple of words")
-    demand(all(is_word(w, k) for w in words), "tuple of words")
-
-
-def _told_words(S, x):
-    """A dict from the pairs of a sheet and a letter to the words s(y, i) that are not empty, in order."""
-    heads = words_from(S[0], S[1], x)
-    told = {}
-    for y, head in enumerate(heads):
-        for at, p in enumerate(S[1]):
-            w = reduced(head + (at + 1,) + opposite_word(heads[p[y]]))
-            if w:
-                told[(y, at + 1)] = w
-    return told
+    demand(all([is_word(w, k) for w in words]), "tuple of words")
 
 
 def schreier_words(S, x):
     """The tuple of the Schreier words."""
     _demand_rooted(S, x)
     refuse_unconnected(S)
-    return tuple(_told_words(S, x).values())
+    return tuple(told_words(S[0], S[1], x).values())
 
 
 def schreier_row(S, x, w):
@@ -61,7 +52,7 @@ def schreier_row(S, x, w):
     rows = letter_rows(S[1])
     if walked(rows, x, w) != x:
         raise Refused("open")
-    numbers = {pair: at + 1 for at, pair in enumerate(_told_words(S, x))}
+    numbers = {pair: at + 1 for at, pair in enumerate(told_words(S[0], S[1], x))}
     row = []
     for letter in reduced(w):
         before, x = x, rows[letter][x]
@@ -75,9 +66,9 @@ def schreier_word(S, x, row):
     """The reduced word that is the product of a row of Schreier words and their inverses."""
     _demand_rooted(S, x)
     refuse_unconnected(S)
-    words = tuple(_told_words(S, x).values())
+    words = tuple(told_words(S[0], S[1], x).values())
     demand(isinstance(row, tuple), "row of numbers")
-    demand(all(is_integer(j) and 0 < abs(j) <= len(words) for j in row), "row of numbers")
+    demand(all([is_integer(j) and 0 < abs(j) <= len(words) for j in row]), "row of numbers")
     letters = []
     for j in row:
         letters.extend(words[j - 1] if j > 0 else opposite_word(words[-j - 1]))
@@ -140,19 +131,20 @@ def cover_classes(k, d):
 def rooted_systems(k, d, words):
     """The ascending tuple of the told systems of d sheets in which some words leave all sheets."""
     _demand_sizes(k, d)
-    _demand_words(words, k)
+    demand_words(words, k)
     demand_within(hall_number(k, d), MOST_LISTED, "large")
     return tuple(sorted(told_tables(k, d, words)))
 
 
-def _demand_few(words):
+def demand_few(words):
+    """Raises Refused if the words have more than 400 letters together."""
     demand_within(sum([len(w) for w in words]), MOST_FOLDED, "large")
 
 
 def _folded_arrows(k, words):
-    _demand_rank(k)
-    _demand_words(words, k)
-    _demand_few(words)
+    demand_letters(k)
+    demand_words(words, k)
+    demand_few(words)
     return arrows_by(words)
 
 
@@ -181,18 +173,18 @@ def subgroup_index(k, words):
 
 def is_in_subgroup(k, words, w):
     """True if w is in the subgroup that the words make."""
-    _demand_rank(k)
-    _demand_words(words, k)
+    demand_letters(k)
+    demand_words(words, k)
     demand_word(w, k)
-    _demand_few(words)
+    demand_few(words)
     return led_along(arrows_by(words), 0, reduced(w)) == 0
 
 
 def same_subgroup(k, words, others):
     """True if both tuples of words make the same subgroup."""
-    _demand_rank(k)
-    _demand_words(words, k)
-    _demand_words(others, k)
-    _demand_few(words)
-    _demand_few(others)
+    demand_letters(k)
+    demand_words(words, k)
+    demand_words(others, k)
+    demand_few(words)
+    demand_few(others)
     return arrows_by(words) == arrows_by(others)

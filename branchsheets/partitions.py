@@ -9,9 +9,9 @@ GREATEST_SUM = 24
 def is_partition(value):
     if not isinstance(value, tuple):
         return False
-    if not all(is_integer(part) and part > 0 for part in value):
+    if not all([is_integer(part) and part > 0 for part in value]):
         return False
-    return all(value[i] >= value[i + 1] for i in range(len(value) - 1))
+    return all([value[i] >= value[i + 1] for i in range(len(value) - 1)])
 
 
 def _demand_partition(mu):

@@ -158,9 +158,9 @@ def type_numbers(S):
 def _is_ascending(sheets, d):
     if not isinstance(sheets, tuple):
         return False
-    if not all(is_integer(x) and 0 <= x < d for x in sheets):
+    if not all([is_integer(x) and 0 <= x < d for x in sheets]):
         return False
-    return all(sheets[i] < sheets[i + 1] for i in range(len(sheets) - 1))
+    return all([sheets[i] < sheets[i + 1] for i in range(len(sheets) - 1)])
 
 
 def orbits_fixing(S, sheets):

@@ -2,7 +2,7 @@
 
 from branchsheets.demands import demand, demand_within
 from branchsheets.partitions import centralizer_order, is_partition
-from branchsheets.plainperms import cycle_rows, exchanged, from_cycles, lengths_of, then, turned, turned_about
+from branchsheets.plainperms import cycle_rows, from_cycles, lengths_of, swaps_made, then, turned, turned_about
 from branchsheets.plainperms import unit_of
 from branchsheets.whole import is_integer, least_common
 
@@ -63,7 +63,7 @@ def power_of(p, k):
 def product_row(perms, d):
     """The product of permutations of d sheets, in order."""
     _demand_row(perms, d)
-    demand(all(is_permutation(p) and len(p) == d for p in perms), "row of permutations")
+    demand(all([is_permutation(p) and len(p) == d for p in perms]), "row of permutations")
     product = unit_of(d)
     for p in perms:
         product = then(product, p)
@@ -207,11 +207,13 @@ def is_swap(value, d):
     return is_integer(a) and is_integer(b) and 0 <= a < b < d
 
 
+def are_swaps(value, many, d):
+    """True if the value is a tuple of so many swaps of d sheets."""
+    return isinstance(value, tuple) and len(value) == many and all([is_swap(swap, d) for swap in value])
+
+
 def swap_product(swaps, d):
     """The product of swaps of d sheets, in order."""
     _demand_row(swaps, d)
-    demand(all(is_swap(swap, d) for swap in swaps), "row of swaps")
-    product = unit_of(d)
-    for a, b in swaps:
-        product = exchanged(product, a, b)
-    return product
+    demand(all([is_swap(swap, d) for swap in swaps]), "row of swaps")
+    return swaps_made(swaps, d)

@@ -16,6 +16,14 @@ def exchanged(p, a, b):
     return tuple([b if x == a else a if x == b else x for x in p])
 
 
+def swaps_made(swaps, d):
+    """The product of swaps of d sheets, in order."""
+    product = unit_of(d)
+    for a, b in swaps:
+        product = exchanged(product, a, b)
+    return product
+
+
 def turned(p):
     """The inverse."""
     back = [0] * len(p)

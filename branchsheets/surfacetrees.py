@@ -81,13 +81,19 @@ def _add_path(chain, tree, x, sign):
         x = before
 
 
-def loop_rows(S):
-    """The list of the loop chains of the edges that are in neither tree, closed by the tree of sheets."""
-    edges = edge_rows(S)
-    sheets = _tree_of(S[0], edges, {})
+def _two_trees(S):
+    """A tree of the sheets, a tree of the faces that takes none of its edges, and a dict of the edges of both."""
+    sheets = _tree_of(S[0], edge_rows(S), {})
     taken = _tree_edges(sheets)
     faces = _tree_of(len(face_rows(S)), _sides_of(S), taken)
     taken.update(_tree_edges(faces))
+    return (sheets, faces, taken)
+
+
+def loop_rows(S):
+    """The list of the loop chains of the edges that are in neither tree, closed by the tree of sheets."""
+    sheets, _, taken = _two_trees(S)
+    edges = edge_rows(S)
     loops = []
     for edge, (x, y) in enumerate(edges):
         if edge not in taken:
@@ -99,12 +105,42 @@ def loop_rows(S):
     return loops
 
 
-def levels_of_faces(S, a):
-    """Numbers of times for the faces, such that both sides of each edge of a tree of faces add up to its number."""
-    tree = _tree_of(len(face_rows(S)), _sides_of(S), {})
+def loop_factors(S, a):
+    """How often a loop chain has, up to a filled one, each of the loops of `loop_rows`."""
+    _, faces, taken = _two_trees(S)
+    # Less these faces nothing is left on the tree of faces; and what is left on that of sheets is told by the loops.
+    filled = faces_chain(S, face_rows(S), _levels_in(faces, a))
+    return [many - less for edge, (many, less) in enumerate(zip(a, filled)) if edge not in taken]
+
+
+def _levels_in(tree, a):
+    """Numbers of times for the faces, such that both sides of each edge of the tree add up to its number."""
     times = [0] * len(tree)
     for face, step in tree.items():
         if step is not None:
             edge, before, _ = step
             times[face] = a[edge] - times[before]
     return times
+
+
+def levels_of_faces(S, a):
+    """Such numbers of times for some tree of faces."""
+    return _levels_in(_tree_of(len(face_rows(S)), _sides_of(S), {}), a)
+
+
+def faces_chain(S, faces, times):
+    """The chain that has the edges of some faces, of each face so many times."""
+    chain = [0] * (len(S[1]) * S[0])
+    for face, many in zip(faces, times):
+        for edge in face:
+            chain[edge] += many
+    return tuple(chain)
+
+
+def led_chain(S, f, a):
+    """The chain to which a deck map leads a chain."""
+    d = S[0]
+    moved = [0] * len(a)
+    for at, many in enumerate(a):
+        moved[at - at % d + f[at % d]] = many
+    return tuple(moved)

@@ -21,7 +21,7 @@ def is_system(value):
         return False
     if not (isinstance(perms, tuple) and len(perms) <= MOST_LETTERS):
         return False
-    return all(is_permutation(p) and len(p) == d for p in perms)
+    return all([is_permutation(p) and len(p) == d for p in perms])
 
 
 def is_cover(value):
@@ -69,7 +69,7 @@ def is_word(value, k):
     demand(is_integer(k) and 0 <= k <= MOST_LETTERS, "rank")
     if not (isinstance(value, tuple) and len(value) <= LONGEST_WORD):
         return False
-    return all(is_integer(letter) and 0 < abs(letter) <= k for letter in value)
+    return all([is_integer(letter) and 0 < abs(letter) <= k for letter in value])
 
 
 def inverse_word(w, k):
@@ -107,7 +107,7 @@ def system_parts(S):
 
 def _is_part(S, value):
     # Items are asked first, because True is equal to 1 and is no sheet.
-    if not (isinstance(value, tuple) and all(is_integer(x) for x in value)):
+    if not (isinstance(value, tuple) and all([is_integer(x) for x in value])):
         return False
     return list(value) in part_rows(S[0], S[1])
 
@@ -186,6 +186,6 @@ def told_system(S, words):
     demand_system(S)
     demand(isinstance(words, tuple) and len(words) <= MOST_LETTERS, "tuple of words")
     k = len(S[1])
-    demand(all(is_word(w, k) for w in words), "tuple of words")
+    demand(all([is_word(w, k) for w in words]), "tuple of words")
     rows = letter_rows(S[1])
     return (S[0], tuple([word_row(rows, S[0], w) for w in words]))

@@ -51,11 +51,16 @@ def _descending(weights):
     return tuple(sorted(weights, reverse=True))
 
 
+def types_of(graph, r):
+    """The left type and the right type of what is known to be a graph."""
+    left = _descending([w for u, _, w in graph if u == 0])
+    return (left, _descending([w for _, v, w in graph if v == r + 1]))
+
+
 def graph_types(graph, r):
     """The pair of the left type and the right type."""
     _demand_graph(graph, r)
-    left = _descending([w for u, _, w in graph if u == 0])
-    return (left, _descending([w for _, v, w in graph if v == r + 1]))
+    return types_of(graph, r)
 
 
 def _turns_of(graph):
@@ -156,12 +161,17 @@ def drawn_graph(a, swaps):
     return tuple(sorted(edges))
 
 
-def _graphs_of(mu, nu, r):
-    """The ascending list of all monodromy graphs with r moves and these types."""
+def demand_listed(mu, nu, r):
+    """Raises Malformed, for every value, or Refused, if the graphs with r moves and these types are not listed."""
     demand_pair(mu, nu)
     demand(is_integer(r) and r >= 0, "number of moves")
     demand_within(sum(mu), MOST_LISTED_SHEETS, "large")
     demand_within(r, MOST_LISTED_MOVES, "large")
+
+
+def _graphs_of(mu, nu, r):
+    """The ascending list of all monodromy graphs with r moves and these types."""
+    demand_listed(mu, nu, r)
     states = [first_state(mu)]
     for v in range(1, r + 1):
         found = []
@@ -178,7 +188,8 @@ def walk_graphs(mu, nu, r):
     return tuple(_graphs_of(mu, nu, r))
 
 
-def _weights_together(graphs, r):
+def weights_together(graphs, r):
+    """The sum of the weights of what are known to be graphs."""
     total = (0, 1)
     for graph in graphs:
         total = ratio_sum(total, _weight_of(graph, r))
@@ -187,9 +198,9 @@ def _weights_together(graphs, r):
 
 def graph_sum(mu, nu, r):
     """The sum of the weights of all graphs."""
-    return _weights_together(_graphs_of(mu, nu, r), r)
+    return weights_together(_graphs_of(mu, nu, r), r)
 
 
 def connected_sum(mu, nu, r):
     """The sum of the weights of the connected graphs."""
-    return _weights_together([graph for graph in _graphs_of(mu, nu, r) if len(_pieces_of(graph, r)) == 1], r)
+    return weights_together([graph for graph in _graphs_of(mu, nu, r) if len(_pieces_of(graph, r)) == 1], r)

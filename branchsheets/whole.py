@@ -20,7 +20,7 @@ def _is_written(text):
         return True
     digits = text[1:] if text[:1] == "-" else text
     # isdigit would also take digits of other scripts.
-    return digits != "" and digits[0] != "0" and all("0" <= sign <= "9" for sign in digits)
+    return digits != "" and digits[0] != "0" and all(["0" <= sign <= "9" for sign in digits])
 
 
 def _read_digits(digits):

@@ -39,17 +39,37 @@ def product_by_permutations(one, two, d):
 class Rows(unittest.TestCase):
     def test_is_class_row(self):
         more = [tuple(range(len(PARTS[d]))) for d in range(10)] + [(1, 0, True), (1, 0, 0.0), [1, 0, 0], (0,) * 22]
-        for d in range(13):
+        for d in range(9):
             for value in VALUES + more:
-                fits = whole_row(value) and (d > 8 or len(value) == len(PARTS[d]))
+                fits = whole_row(value) and len(value) == len(PARTS[d])
                 self.assertIs(is_class_row(value, d), fits, (value, d))
-        self.assertIs(is_class_row((1, 2), 10 ** 60), True)
-        self.assertIs(is_class_row([1, 2], 10 ** 60), False)
+
+    def test_is_class_row_large(self):
+        self.assertEqual((len(PARTS[8]), len(PARTS[9])), (22, 30))
+        for value, fits in (((1,) * 22, True), ((1,) * 30, False), ((1, 2), False), (None, False)):
+            self.assertIs(is_class_row(value, 8), fits)
+        for d in (9, 10, 12, 24, 25, 10 ** 60):
+            for value in [(1,) * 22, (1,) * 30, (1, 2), (), [1, 2], None] + VALUES:
+                refused(self, "large", is_class_row, value, d)
 
     def test_is_class_row_malformed(self):
         for d in VALUES:
             if not (whole(d) and d >= 0):
                 malformed(self, is_class_row, ((1,), d), (None, d))
+
+    def test_errors_in_order_above_8(self):
+        for d in (9, 10 ** 60):
+            for row in ((1, 2), (1,) * 30, ()):
+                refused(self, "large", row_sum, row, d)
+                refused(self, "large", signed_row_sum, row, d)
+                refused(self, "large", class_product, row, (5,), d)
+                refused(self, "large", class_power, row, 2, d)
+            for row in (None, [1, 2], (True,), (1, None), 5):
+                malformed(self, row_sum, (row, d))
+                malformed(self, signed_row_sum, (row, d))
+                malformed(self, class_product, (row, (1,), d), ((1,), row, d))
+                malformed(self, class_power, (row, 2, d))
+            malformed(self, class_power, ((1, 2), 41, d), ((1, 2), -1, d), ((1, 2), True, d))
 
     def test_class_row_of(self):
         for d in range(9):

@@ -9,6 +9,7 @@ from branchsheets.coverpapers import alike_paper, blocks_paper, galois_paper, ov
 from branchsheets.systems import renumbered_system
 from helpers import ALL_24, VALUES, connected, cycle_row, malformed, malformed_in_each_place, permutation
 from helpers import random_permutation, random_systems, system, walk, whole, word
+from judging import form, judged
 
 S = (3, ((1, 0, 2), (0, 2, 1), (1, 2, 0)))
 SIX = (6, ((1, 2, 3, 4, 5, 0),))
@@ -59,10 +60,6 @@ def closed(A, x, w):
 
 def words_for(A, B, value):
     return isinstance(value, tuple) and len(value) == B[0] and all(word(w, len(A[1])) for w in value)
-
-
-def form(paper, head, many):
-    return isinstance(paper, tuple) and len(paper) == many + 1 and paper[0] == head
 
 
 def alike_by_words(A, B, paper):
@@ -138,45 +135,6 @@ def blocks_by_words(A, paper):
         return isinstance(rows, tuple) and len(rows) == A[0] - 1 and all(
             joined_by_row(A, y, row) for y, row in enumerate(rows, 1))
     return False
-
-
-def spoiled(source, value):
-    """A paper with something changed, left out, exchanged, one too many, or of another kind."""
-    if whole(value):
-        return source.choice([value + 1, value - 1, -value, True, False, None, 0, 1, str(value), (value,), 10 ** 60])
-    if isinstance(value, str):
-        return source.choice([value + "s", value.upper(), "", 0, None, "alike", "apart", "over", "none", "galois",
-                              "uneven", "blocks", "primitive", (value,)])
-    if isinstance(value, tuple) and value:
-        at, other = source.randrange(len(value)), source.randrange(len(value))
-        row = list(value)
-        kind = source.randrange(9)
-        if kind < 4:
-            row[at] = spoiled(source, value[at])
-        elif kind == 4:
-            del row[at]
-        elif kind == 5:
-            row.insert(at, row[other])
-        elif kind == 6:
-            row[at], row[other] = row[other], row[at]
-        elif kind == 7:
-            return row
-        else:
-            row[at] = source.choice(VALUES)
-        return tuple(row)
-    return source.choice([(0,), (1,), ((),), [], None, (-1, 1)])
-
-
-def judged(case, judge, by_words, args, paper, seed):
-    """The judge takes the paper, and of many others what the words of the point take, and nothing else."""
-    case.assertIs(judge(*args, paper), True, (args, paper))
-    case.assertIs(by_words(*args, paper), True)
-    source = random.Random(seed)
-    for _ in range(25):
-        other = paper
-        for _ in range(source.randint(1, 2)):
-            other = spoiled(source, other)
-        case.assertIs(judge(*args, other), by_words(*args, other), (args, other))
 
 
 def longest(paper):

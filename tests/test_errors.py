@@ -49,6 +49,23 @@ INTERFACE = {
     "coverpapers": "alike_paper over_paper galois_paper blocks_paper",
     "coverjudges": "takes_alike takes_over takes_galois takes_blocks",
     "movepapers": "braid_paper walk_paper graphs_paper",
+    "movejudges": "takes_braid takes_walk takes_graphs",
+    "grouppapers": "member_paper order_paper product_paper index_paper linked_paper",
+    "groupjudges": "takes_member takes_order takes_product takes_index takes_linked",
+    "surfacepapers": "renumbered_paper swaps_paper filled_paper independent_paper trace_paper",
+    "surfacejudges": "takes_renumbered takes_swaps takes_filled takes_independent takes_trace",
+    "datumpapers": "datum_paper joining_paper below_paper",
+    "datumjudges": "takes_datum takes_joining takes_below",
+    "sheet": "read_line",
+    "replies": "Reply reply_to defined_by is_right",
+    "log": "write_data read_data write_log read_log first_wrong",
+    "console": "Console",
+}
+
+# The methods of the classes, each defined in the class itself, with the arguments behind the object.
+METHODS = {
+    ("replies", "Reply"): {"__init__": "kind,text,data", "__eq__": "other"},
+    ("console", "Console"): {"__init__": "most", "enter": "line", "__len__": "", "__iter__": "", "names": "", "log": ""},
 }
 
 # The arguments of the functions from chapter 9 on, as the interface names them.
@@ -64,6 +81,17 @@ ARGUMENTS = {
     "coverpapers": "S,T S,T S S",
     "coverjudges": "S,T,paper S,T,paper S,paper S,paper",
     "movepapers": "one,two mu,nu,r mu,nu,r",
+    "movejudges": "one,two,paper mu,nu,r,paper mu,nu,r,paper",
+    "grouppapers": "S,p S k,words,w k,words S,T",
+    "groupjudges": "S,p,paper S,paper k,words,w,paper k,words,paper S,T,paper",
+    "surfacepapers": "p,q p,m S,a S,chains S,f",
+    "surfacejudges": "p,q,paper p,m,paper S,a,paper S,chains,paper S,f,paper",
+    "datumpapers": "d,data p,r p",
+    "datumjudges": "d,data,paper p,r,paper p,paper",
+    "sheet": "line",
+    "replies": "kind,text,data names,line names,line names,entry",
+    "log": "data text entries text entries",
+    "console": "most",
 }
 
 
@@ -104,6 +132,19 @@ class Interface(unittest.TestCase):
             self.assertEqual(len(words), len(rows.split()))
             for word, row in zip(words, rows.split()):
                 self.assertEqual(",".join(inspect.signature(getattr(module, word)).parameters), row, word)
+
+    def test_methods(self):
+        for (name, word), methods in METHODS.items():
+            made = getattr(importlib.import_module("branchsheets." + name), word)
+            for method, row in methods.items():
+                self.assertIn(method, vars(made))
+                self.assertEqual(",".join(list(inspect.signature(vars(made)[method]).parameters)[1:]), row, method)
+
+    def test_defaults(self):
+        reply, console = (getattr(importlib.import_module("branchsheets." + name), word) for name, word in METHODS)
+        self.assertEqual([part.default for part in inspect.signature(reply).parameters.values()][1:], ["", ()])
+        most = inspect.signature(console).parameters["most"]
+        self.assertEqual((most.default, most.kind), (300, inspect.Parameter.KEYWORD_ONLY))
 
     def test_init_defines_nothing(self):
         import branchsheets

@@ -10,7 +10,7 @@ HERE = os.path.join(os.path.dirname(os.path.abspath(__file__)), "examples")
 class Examples(unittest.TestCase):
     def test_examples(self):
         names = sorted(os.listdir(HERE))
-        self.assertEqual(len(names), 17)
+        self.assertEqual(len(names), 21)
         for name in names:
             with self.subTest(name):
                 failed, tried = doctest.testfile(os.path.join(HERE, name), module_relative=False)

@@ -17,7 +17,8 @@ METHODS = ("append clear copy count endswith extend find get index insert isalnu
            " rstrip setdefault split splitlines startswith strip update upper values zfill bit_length"
            " add discard").split()
 BUILTINS = ("len range enumerate zip min max sum abs sorted reversed int str bool list tuple dict set isinstance ord"
-            " repr any all divmod ValueError").split()
+            " repr any all divmod iter ValueError").split()
+OWN_METHODS = ("__init__", "__eq__", "__len__", "__iter__")
 WORDS = ("type typing typing_extensions enum Enum IntEnum StrEnum Flag IntFlag Generic Protocol ABC ABCMeta namedtuple"
          " NamedTuple TypedDict TYPE_CHECKING abstractmethod").split()
 BARRED = WORDS + "mro elements open input law register eval exec globals locals vars dir id super print".split()
@@ -82,8 +83,8 @@ class Language(unittest.TestCase):
             self.assertFalse(set(own) & {alias for alias in taken if alias not in own}, name)
             for node in ast.walk(tree):
                 if isinstance(node, (ast.FunctionDef, ast.ClassDef)):
-                    self.assertTrue(node.name == "__init__" or not hasattr(builtins, node.name), (name, node.name))
-                    self.assertTrue(node.name == "__init__" or not node.name.startswith(HEADS), (name, node.name))
+                    self.assertTrue(node.name in OWN_METHODS or not hasattr(builtins, node.name), (name, node.name))
+                    self.assertTrue(node.name in OWN_METHODS or not node.name.startswith(HEADS), (name, node.name))
                     self.assertEqual(node.decorator_list, [], (name, node.name))
                 if isinstance(node, ast.FunctionDef):
                     for word in bound_names(node):
@@ -137,6 +138,39 @@ class Language(unittest.TestCase):
                             self.assertTrue(isinstance(other, ast.Constant) and other.value in (None, True, False), name)
                 if isinstance(node, ast.Call) and isinstance(node.func, ast.Name):
                     self.assertFalse(node.func.id in ("set", "frozenset", "print"), name)
+
+    def test_generator_expressions(self):
+        # With a class that has an __eq__, any, all, min, max, sum and sorted take lists.
+        for name, text in files():
+            for node in ast.walk(ast.parse(text)):
+                self.assertNotIsInstance(node, ast.GeneratorExp, name)
+
+    def test_handlers(self):
+        errors = ("Fault", "Malformed", "Refused", "NoText")
+        for name, text in files():
+            for node in ast.walk(ast.parse(text)):
+                if isinstance(node, ast.ExceptHandler):
+                    self.assertIn(node.type.id, errors, name)
+                if isinstance(node, ast.Raise):
+                    self.assertIn(node.exc.func.id, errors, name)
+                if isinstance(node, ast.Starred) and not isinstance(node.ctx, ast.Store):
+                    self.assertIsInstance(node.value, ast.Name, name)
+
+    def test_attributes(self):
+        # No name is a method and an attribute, and each attribute that is read is assigned somewhere.
+        stored, methods, read = set(), set(), set()
+        for name, text in files():
+            tree = ast.parse(text)
+            called = {id(node.func) for node in ast.walk(tree) if isinstance(node, ast.Call)}
+            for node in ast.walk(tree):
+                if isinstance(node, ast.ClassDef):
+                    methods |= {part.name for part in node.body if isinstance(part, ast.FunctionDef)}
+                if isinstance(node, ast.Attribute) and isinstance(node.ctx, ast.Store):
+                    stored.add(node.attr)
+                elif isinstance(node, ast.Attribute) and id(node) not in called:
+                    read.add(node.attr)
+        self.assertFalse(stored & methods)
+        self.assertFalse(read - stored)
 
     def test_constants(self):
         for name, text in files():

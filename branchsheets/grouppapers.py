@@ -79,7 +79,6 @@ def _schreier_numbers(fold, n, perms):
 def index_paper(k, words):
     """A paper of the index of the subgroup that some words make, or that it is not finite."""
     demand_index(k, words)
-    demand_few(words)
     n, arcs = folded_system(k, words)
     if len(arcs) < n * k:
         return ("loose", n, arcs)

@@ -44,7 +44,7 @@ def _read_tokens(tokens):
             held[-1].append(items)
         elif token != "":
             held[-1].append(token if _is_label(token) else read_integer(token))
-    if len(held) != 1 or len(held[0]) != 1:
+    if len(held[0]) != 1:
         raise NoText(0)
     return held[0][0]
 
@@ -54,7 +54,7 @@ def read_data(text):
     if not isinstance(text, str):
         raise NoText(0)
     data = _read_tokens(text.replace("(", "( ").replace(")", " )").split(" "))
-    # The spaces have not been looked at.
+    # The spaces, and what is still open at the end, have not been looked at.
     if write_data(data) != text:
         raise NoText(0)
     return data

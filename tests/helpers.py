@@ -3,7 +3,9 @@
 import itertools
 import random
 
+from branchsheets.console import Console
 from branchsheets.errors import Malformed, NoText, Refused
+from branchsheets.replies import Reply
 
 
 def nested(depth, kind):
@@ -26,7 +28,7 @@ VALUES = [
     (2, ()), (2, ((1, 0), (1, 0))), ("2", ((1, 0),)), (2, "ab"), (2, None), (1, ((False,),)), (2, ((1, 0),), 0),
     (24, ((0,) * 24,)), (10 ** 60, ()), (1, ((0,),) * 13),
     nested(60, tuple), nested(60, list), (nested(59, tuple),), Malformed("x"), Refused("large"), NoText(0),
-    (Malformed("x"), 1), (1, (2, (3,))),
+    (Malformed("x"), 1), (1, (2, (3,))), Reply("a", "b", (1,)), Console(), (Reply("alike"), (0,)), ("alike", Console()),
 ]
 
 

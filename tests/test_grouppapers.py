@@ -222,6 +222,45 @@ class Orders(unittest.TestCase):
         self.assertIs(takes_order((0, ()), ("order", 1, EMPTY)), True)
         self.assertIs(takes_order((0, ()), ("order", 0, EMPTY)), False)
 
+    def test_ladders_that_are_not_closed(self):
+        # The permutation of the system sifts to one, but its square does not.
+        short = ((("letter", 1),), ((0, ((1, 0),)),))
+        self.assertIs(takes_order(THREE, ("order", 2, short)), False)
+        self.assertIs(takes_member(THREE, (2, 0, 1), ("ladder", short)), False)
+        self.assertIs(takes_member(THREE, (0, 2, 1), ("ladder", short)), False)
+        # A step leads its sheet to another one, and leaves the sheets of earlier levels.
+        rows, levels = LADDER
+        still = (rows + (("times", 0, 1),), ((0, ((0, 2), (1, 0), (2, 1))),))
+        self.assertIs(takes_order(THREE, ("order", 4, still)), False)
+        two = (2, ((1, 0),))
+        self.assertIs(takes_order(two, ("order", 2, ((("letter", 1),), ((0, ((1, 0),)),)))), True)
+        self.assertIs(takes_order(two, ("order", 4, ((("letter", 1),), ((0, ((1, 0),)), (1, ((0, 0),)))))), False)
+
+    def test_random_ladders(self):
+        source = random.Random(8)
+        met = {True: 0, False: 0}
+        for _ in range(3000):
+            d, k = source.randint(1, 4), source.randint(0, 2)
+            S = (d, tuple(random_permutation(source, d) for _ in range(k)))
+            n, (rows, levels) = order_paper(S)[1:]
+            if k:
+                rows += (("letter", source.choice([1, -1])), ("times", len(rows), source.randrange(len(rows) + 1)))
+            perms = perms_of_slate(S, rows)
+            ladder, n = [], 1
+            for b in source.sample(range(d), source.randint(0, d)):
+                told = [steps for c, steps in levels if c == b]
+                found = {perms[i][b]: i for i in source.sample(range(len(perms)), source.randint(0, len(perms)))}
+                found.pop(b, None)
+                steps = told[0] if told and source.random() < 0.5 else tuple(sorted(found.items()))
+                ladder.append((b, steps))
+                n *= len(steps) + 1
+            paper = ("order", n, (rows, tuple(ladder if source.random() < 0.5 else sorted(ladder))))
+            is_taken = order_by_words(S, paper)
+            met[is_taken] += 1
+            self.assertIs(takes_order(S, paper), is_taken, (S, paper))
+            self.assertFalse(is_taken and n != len(group_list(*S)))
+        self.assertTrue(min(met.values()) > 300)
+
     def test_products_of_later_levels(self):
         # The permutation of the system sifts to one, but a product of a step and one of a later level does not.
         S = (4, ((1, 0, 2, 3), (0, 1, 3, 2), (1, 0, 3, 2)))

@@ -193,6 +193,12 @@ class Products(unittest.TestCase):
         # Written behind one another these have more than 4000 letters, reduced they have fewer.
         short = rows + (("turned", 0), ("times", 1, 1)) + (("letter", 1),)
         self.assertIs(takes_product(2, words, (1,) * 2000, ("product", short)), False)
+        for end, fits in (((1,), False), ((-1,), True), ((2,), False), ((-1, 2), True), ((-1, 2, 2), False),
+                          ((-1, -1, 2, 2), True), ((-1, -1, 2, 2, 2), False)):
+            told = ("product", rows + (("letter", 2), ("times", 1, 2), ("letter", 1)))
+            words = ((1,) * 2000, end)
+            self.assertIs(takes_product(2, words, (1,) * 2000, told), fits)
+            self.assertIs(product_by_words(2, words, (1,) * 2000, told), fits)
         joined = rows + (("turned", 1), ("times", 1, 2), ("letter", 1))
         self.assertIs(takes_product(2, words, (1,) * 2000, ("product", joined)), True)
 
@@ -325,6 +331,22 @@ class Indexes(unittest.TestCase):
         for T in ((3, ((2, 0, 1),)), (4, S[1]), [3, S[1]], (3, list(S[1])), (3, ((0, 1, 2), (0, 1, 2))), (3, S[1], 0),
                   (6, ((2, 0, 1, 5, 3, 4), (0, 1, 2, 3, 4, 5))), (1, ((0,), (0,)))):
             self.assertIs(takes_index(2, rows, ("index", T, slate, (0, 1, 2, 3))), False, T)
+
+    def test_words_that_are_not_closed(self):
+        told = ("index", (2, ((1, 0),)), (("letter", 1),), (0,))
+        self.assertIs(takes_index(1, ((1, 1),), told), True)
+        self.assertIs(takes_index(1, ((1, 1), (1, 1, 1, 1)), told), True)
+        self.assertIs(takes_index(1, ((1, 1), (1,)), told), False)
+
+    def test_arcs_of_other_letters(self):
+        self.assertIs(takes_index(2, ((1,),), ("loose", 1, ((0, 1, 0),))), True)
+        for arcs in (((0, 1, 0), (0, 3, 0)), ((0, 0, 0), (0, 1, 0)), ((0, -2, 0), (0, 1, 0)), ((0, -1, 0),)):
+            self.assertIs(takes_index(2, ((1,),), ("loose", 1, arcs)), False)
+        self.assertIs(takes_index(1, ((1,),), ("loose", 1, ((0, 1, 0), (0, 2, 0)))), False)
+        # Two arcs of one letter from one point, or to one point.
+        self.assertIs(takes_index(2, ((1,),), ("loose", 3, ((0, 1, 0), (0, 2, 1), (0, 2, 2)))), False)
+        self.assertIs(takes_index(2, ((1,),), ("loose", 3, ((0, 1, 0), (0, 2, 1), (2, 2, 1)))), False)
+        self.assertIs(takes_index(2, ((1,),), ("loose", 3, ((0, 1, 0), (0, 2, 1), (2, 2, 0)))), True)
 
     def test_partial_systems(self):
         words = ((1, 2),)
@@ -492,6 +514,9 @@ class Links(unittest.TestCase):
             self.assertIs(takes_linked(S, T, ("word", (1,) * n)), n % 2 == 1 and n <= 400)
         for wrong in ((0,), (2,), (True,), [1], "1", 1, None, ((1,),)):
             self.assertIs(takes_linked(S, T, ("word", wrong)), False)
+        three, unit = (3, ((1, 2, 0),)), (3, ((0, 1, 2),))
+        for n in (397, 398, 399, 400, 401):
+            self.assertIs(takes_linked(three, unit, ("word", (1,) * n)), n % 3 > 0 and n <= 400)
 
     def test_great(self):
         source = random.Random(20)
@@ -505,6 +530,10 @@ class Links(unittest.TestCase):
             S = (8, tuple(random_permutation(source, 8) for _ in range(2)))
             for T in (renumbered_system(S, random_permutation(source, 8)), (8, S[1][::-1])):
                 self.assertIs(takes_linked(S, T, linked_paper(S, T)), True)
+        # Not 0, though some great number divides the determinant.
+        for n in (2 ** 61 - 1, 2 ** 61 * (2 ** 61 - 1), 10 ** 200, 10007):
+            self.assertIs(takes_linked((1, ()), (1, ()), ("linked", (((n, 1),),))), True)
+            self.assertIs(takes_linked((2, ()), (2, ()), ("linked", (((n, 1), (3, 1)), ((0, 1), (n, 7))))), n % 7 > 0)
         big = tuple(tuple((source.randint(1, 10 ** 60), 1) for _ in range(24)) for _ in range(24))
         self.assertIs(takes_linked((24, ()), (24, ()), ("linked", big)), True)
         self.assertIs(takes_linked((24, ()), (24, ()), ("linked", big[:23] + big[:1])), False)

@@ -209,6 +209,13 @@ def is_tuple_text(text):
 
 
 class FirstWrong(unittest.TestCase):
+    def test_nothing_changes(self):
+        entries = list(ENTRIES) + [("x", Reply("error", "malformed"))]
+        before = list(entries)
+        self.assertEqual((first_wrong(entries), first_wrong(entries)), (len(ENTRIES), len(ENTRIES)))
+        self.assertEqual(write_log(entries), write_log(before))
+        self.assertEqual(entries, before)
+
     def test_right(self):
         self.assertEqual(first_wrong(ENTRIES), -1)
         self.assertEqual(first_wrong([]), -1)

@@ -295,6 +295,13 @@ class Graphs(unittest.TestCase):
             for told in (c, (left.numerator, left.denominator)):
                 self.assertIs(takes_graphs((2, 1), (2, 1), 2, ("graphs", told, graphs[:at] + graphs[at + 1:])), False)
 
+    def test_graphs_of_other_types(self):
+        # Each of these has the weight 1/2, that of the only graph with these types.
+        graph, pair = ((0, 1, 2),), ((0, 1, 1), (0, 1, 1))
+        for mu, told, wrong in (((2,), graph, pair), ((1, 1), pair, graph)):
+            self.assertIs(takes_graphs(mu, mu, 0, ("graphs", (1, 2), (told,))), True)
+            self.assertIs(takes_graphs(mu, mu, 0, ("graphs", (1, 2), (wrong,))), False)
+
     def test_greatest(self):
         for mu, nu, r in (((4,), (4,), 10), ((5,), (1,) * 5, 8), ((2, 1), (1, 1, 1), 11)):
             paper = graphs_paper(mu, nu, r)

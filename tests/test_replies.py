@@ -101,6 +101,7 @@ SYSTEM_LINES = [
     ("system x = 3 1,0,2 0,2,1", "x", (3, ((1, 0, 2), (0, 2, 1))), "3 1,0,2 0,2,1"),
     ("system s = 0 -", "s", (0, ((),)), "0 -"), ("system x = 5", "x", (5, ()), "5"), ("system x = 1 0", "x", (1, ((0,),)), "1 0"),
     ("swaps x = 3 0,1 1,2", "x", (3, ((1, 0, 2), (0, 2, 1))), "3 1,0,2 0,2,1"), ("swaps x = 24", "x", (24, ()), "24"),
+    ("swaps x = 2" + " 0,1" * 12, "x", (2, ((1, 0),) * 12), None), ("system x = 1" + " 0" * 12, "x", (1, ((0,),) * 12), None),
     ("close x two", "x", (2, ((1, 0), (1, 0))), "2 1,0 1,0"), ("close two two", "two", (2, ((1, 0), (1, 0))), "2 1,0 1,0"),
     ("close x bare", "x", (3, ((0, 1, 2),)), "3 0,1,2"), ("close x apart", "x", (4, APART[1] + ((1, 0, 3, 2),)), None),
     ("least x s", "x", systems.least_system(S), None), ("closure x s", "x", fibreproducts.closure_system(S), None),
@@ -149,14 +150,13 @@ WRONG_LINES = [
 ]
 
 
-def copied(names):
-    return dict(names)
-
-
 class Replies(unittest.TestCase):
     def reply(self, line):
-        before = copied(NAMES)
+        before = dict(NAMES)
         reply = reply_to(NAMES, line)
+        self.assertIs(is_right(NAMES, (line, reply)), True)
+        defined_by(NAMES, line)
+        # The definitions stay as they are.
         self.assertEqual(NAMES, before)
         self.assertIsInstance(reply, Reply)
         self.assertEqual(reply, reply_to(NAMES, line))

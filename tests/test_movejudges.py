@@ -11,25 +11,12 @@ from branchsheets.movejudges import takes_braid, takes_graphs, takes_walk
 from branchsheets.movepapers import braid_paper, graphs_paper, walk_paper
 from branchsheets.walkgraphs import graph_weight, walk_graphs
 from helpers import VALUES, all_swaps, lengths, malformed, mul, of_type, partition, partition_of, partitions_by_trying
-from helpers import parts_by_trying, permutation, product_by_walking, refused, swap_row, whole
+from helpers import product_by_walking, refused, swap_row, whole
 from judging import ahead_of_papers, form, integers, judged, misfits, same, strangers_judged
+from swaprows import counts_of, is_swap_row, parts_of
 
 PARTS = {d: partitions_by_trying(d) for d in range(13)}
 FOUR = ((1, 0, 2), (1, 0, 2), (2, 1, 0), (2, 1, 0))
-
-
-def is_swap_row(value):
-    return (isinstance(value, tuple) and 1 <= len(value) <= 16 and all(permutation(p) for p in value)
-            and len({len(p) for p in value}) == 1 and len(value[0]) <= 12
-            and all(sum(x != y for x, y in enumerate(p)) == 2 for p in value))
-
-
-def parts_of(row):
-    return [part for part in parts_by_trying((len(row[0]), row)) if len(part) > 1]
-
-
-def counts_of(row):
-    return [sum(any(p[x] != x for x in part) for p in row) for part in parts_of(row)]
 
 
 def moved(row, word):

@@ -10,24 +10,11 @@ from branchsheets.cutjoin import double_number, is_type_walk, move_number, share
 from branchsheets.movepapers import braid_paper, graphs_paper, walk_paper
 from branchsheets.walkgraphs import graph_types, graph_weight, is_walk_graph
 from helpers import VALUES, all_swaps, malformed, malformed_in_each_place, mul, partition_of, partitions_by_trying
-from helpers import parts_by_trying, permutation, product_by_walking, refused, swap_row, whole
+from helpers import product_by_walking, refused, swap_row, whole
+from swaprows import counts_of, is_swap_row, parts_of
 
 PARTS = {d: partitions_by_trying(d) for d in range(13)}
 FOUR = ((1, 0, 2), (1, 0, 2), (2, 1, 0), (2, 1, 0))
-
-
-def is_swap_row(value):
-    return (isinstance(value, tuple) and 1 <= len(value) <= 16 and all(permutation(p) for p in value)
-            and len({len(p) for p in value}) == 1 and len(value[0]) <= 12
-            and all(sum(x != y for x, y in enumerate(p)) == 2 for p in value))
-
-
-def parts_of(row):
-    return [part for part in parts_by_trying((len(row[0]), row)) if len(part) > 1]
-
-
-def counts_of(row):
-    return [sum(any(p[x] != x for x in part) for p in row) for part in parts_of(row)]
 
 
 def kinds_of_braid(one, two, paper):

@@ -35,13 +35,9 @@ def _tables(k, d):
     states = [([{} for _ in range(d)], 1)]
     for place in range(d * len(letters)):
         x, letter = place // len(letters), letters[place % len(letters)]
-        ahead = []
-        for table, used in states:
-            # A table whose sheets are all filled before the last one is that of fewer sheets.
-            if x < used:
-                for y in _choices(table, letters, place, used, d):
-                    ahead.append((_with_arrow(table, x, letter, y), max(used, y + 1)))
-        states = ahead
+        # A table whose sheets are all filled before the last one is that of fewer sheets.
+        states = [(_with_arrow(table, x, letter, y), max(used, y + 1))
+                  for table, used in states if x < used for y in _choices(table, letters, place, used, d)]
     return [table for table, _ in states]
 
 

@@ -22,7 +22,8 @@ def character_at(lam, mu):
     factors = {lam: 1}
     for m in mu:
         ahead = {}
-        for kept, factor in factors.items():
+        # A copy, because the dict that is filled gets the name of the one that is walked.
+        for kept, factor in list(factors.items()):
             for rest, height in hooks_off(kept, m):
                 ahead[rest] = ahead.get(rest, 0) + (-factor if height & 1 else factor)
         factors = ahead

@@ -8,11 +8,8 @@ def choices_from(mu):
     """The triples of the parts that are taken, those that are left, and the number of ways if all parts are marked."""
     rows = [((), (), 1)]
     for part, many in part_counts(mu):
-        wider = []
-        for taken, left, ways in rows:
-            for n in range(many + 1):
-                wider.append((taken + (part,) * n, left + (part,) * (many - n), ways * chosen_of(many, n)))
-        rows = wider
+        rows = [(taken + (part,) * n, left + (part,) * (many - n), ways * chosen_of(many, n))
+                for taken, left, ways in rows for n in range(many + 1)]
     return rows
 
 

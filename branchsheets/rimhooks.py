@@ -103,7 +103,8 @@ def kostka_number(lam, mu):
     # The cells with one number are a strip; the number of fillings is the same in each order of the parts.
     for m in mu:
         ahead = {}
-        for kept, many in ways.items():
+        # A copy, because the dict that is filled gets the name of the one that is walked.
+        for kept, many in list(ways.items()):
             for rest in _strips_off(kept, m):
                 ahead[rest] = ahead.get(rest, 0) + many
         ways = ahead
@@ -127,7 +128,8 @@ def young_number(mu, nu):
     ways = {tuple(sorted(mu)): 1}
     for length in nu:
         ahead = {}
-        for rooms, many in ways.items():
+        # A copy, because the dict that is filled gets the name of the one that is walked.
+        for rooms, many in list(ways.items()):
             for rest, more in _rooms_left(rooms, length).items():
                 ahead[rest] = ahead.get(rest, 0) + many * more
         ways = ahead

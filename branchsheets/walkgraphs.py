@@ -175,7 +175,8 @@ def _graphs_of(mu, nu, r):
     states = [first_state(mu)]
     for v in range(1, r + 1):
         found = []
-        for state in states:
+        # A copy, because the list that grows gets the name of the one that is walked.
+        for state in list(states):
             found.extend(states_behind(state, v))
             if len(found) > MOST_GRAPHS:
                 raise Refused("many")

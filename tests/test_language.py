@@ -22,6 +22,9 @@ OWN_METHODS = ("__init__", "__eq__", "__len__", "__iter__")
 WORDS = ("type typing typing_extensions enum Enum IntEnum StrEnum Flag IntFlag Generic Protocol ABC ABCMeta namedtuple"
          " NamedTuple TypedDict TYPE_CHECKING abstractmethod").split()
 BARRED = WORDS + "mro elements open input law register eval exec globals locals vars dir id super print".split()
+VIEWS = ("items", "keys", "values")
+WALKERS = ("enumerate", "zip", "reversed")
+CHANGES = "append clear extend insert pop remove reverse setdefault update".split()
 HEADS = ("_wall", "_pe_", "_dcw_", "_enum_", "_cm_", "_twin_re_", "_lay_", "_law_", "_stub_", "_sre", "__")
 
 
@@ -34,6 +37,75 @@ def bound_names(node):
         if isinstance(part, ast.Lambda):
             names.extend(argument.arg for argument in part.args.args)
     return names
+
+
+def held_names(node):
+    """The names of what a value may be or be taken from: by itself, as a field, by a choice, or through zip and the like."""
+    if isinstance(node, ast.Name):
+        return [node.id]
+    if isinstance(node, (ast.Attribute, ast.Subscript)):
+        owner = held_names(node.value)
+        return [ast.unparse(node)] if owner else []
+    if isinstance(node, ast.IfExp):
+        return held_names(node.body) + held_names(node.orelse)
+    if isinstance(node, ast.BoolOp):
+        return [name for part in node.values for name in held_names(part)]
+    if isinstance(node, ast.Call) and isinstance(node.func, ast.Attribute) and node.func.attr in VIEWS:
+        return held_names(node.func.value)
+    if isinstance(node, ast.Call) and isinstance(node.func, ast.Name) and node.func.id in WALKERS:
+        return [name for part in node.args for name in held_names(part)]
+    return []
+
+
+def one_thing_groups(function):
+    """A function from a name to a name that stands for all that one plain assignment or more give the same thing."""
+    above = {}
+
+    def root(name):
+        while name in above:
+            name = above[name]
+        return name
+
+    for node in ast.walk(function):
+        if isinstance(node, ast.Assign):
+            for target in node.targets:
+                pairs = [(target, node.value)]
+                if isinstance(target, ast.Tuple) and isinstance(node.value, ast.Tuple):
+                    pairs = list(zip(target.elts, node.value.elts))
+                for one, two in pairs:
+                    for name in held_names(one):
+                        for other in held_names(two):
+                            if root(name) != root(other):
+                                above[root(name)] = root(other)
+    return root
+
+
+def changed_names(rows):
+    """The names of what some rows change: by a method, an item, or an assignment with a sign."""
+    names = []
+    for node in [part for row in rows for part in ast.walk(row)]:
+        if isinstance(node, ast.Call) and isinstance(node.func, ast.Attribute) and node.func.attr in CHANGES:
+            names.extend(held_names(node.func.value))
+        if isinstance(node, ast.Subscript) and not isinstance(node.ctx, ast.Load):
+            names.extend(held_names(node.value))
+        if isinstance(node, ast.AugAssign):
+            names.extend(held_names(node.target))
+    return names
+
+
+def changed_while_walked(function):
+    """The pairs of a line and a name: of the loops of a function that change what they walk."""
+    root = one_thing_groups(function)
+    found = []
+    for node in ast.walk(function):
+        walked, rows = [], []
+        if isinstance(node, ast.For):
+            walked, rows = held_names(node.iter), node.body
+        elif isinstance(node, (ast.ListComp, ast.DictComp)):
+            walked, rows = [name for part in node.generators for name in held_names(part.iter)], [node]
+        groups = [root(name) for name in walked]
+        found.extend((node.lineno, name) for name in changed_names(rows) if root(name) in groups)
+    return found
 
 
 def files():
@@ -144,6 +216,24 @@ class Language(unittest.TestCase):
         for name, text in files():
             for node in ast.walk(ast.parse(text)):
                 self.assertNotIsInstance(node, ast.GeneratorExp, name)
+
+    def test_walked_things_stay(self):
+        for name, text in files():
+            for node in ast.walk(ast.parse(text)):
+                if isinstance(node, ast.FunctionDef):
+                    self.assertEqual(changed_while_walked(node), [], (name, node.name))
+
+    def test_walked_things_that_change_are_seen(self):
+        told = (("for x in a:\n        b.append(x)\n    a = b", ["b"]),
+                ("for x in list(a):\n        b.append(x)\n    a = b", []),
+                ("for x, y in a.items():\n        b[x] = y\n    a, c = b, 1", ["b"]),
+                ("for x in enumerate(a.rows):\n        a.rows.pop()", ["a.rows"]),
+                ("for x in (a if c else b):\n        b += [x]", ["b"]),
+                ("for x in a:\n        b.append(x)\n    c = b", []),
+                ("c = [a.pop() for x in a]", ["a"]))
+        for rows, names in told:
+            function = ast.parse("def f(a, b, c):\n    " + rows).body[0]
+            self.assertEqual([name for _, name in changed_while_walked(function)], names, rows)
 
     def test_handlers(self):
         errors = ("Fault", "Malformed", "Refused", "NoText")
